@@ -1,0 +1,1 @@
+"""Arrivalmill: what a run of actors hangs on."""
