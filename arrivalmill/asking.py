@@ -6,8 +6,8 @@ from arrivalmill.shapes import is_kind, is_list
 
 def look_word(name, terms):
     """The first word of the look that a function of these terms does; None if it raises badarg ahead of it."""
-    check, word = CHECKS[name]
-    return word if check(terms) else None
+    check = CHECKS[name]
+    return WORDS[name] if check(terms) else None
 
 
 def sends_to(term):
@@ -66,11 +66,15 @@ def _timer(terms):
 
 
 CHECKS = {
-    "monotonic_time": (_nothing, "clock"), "link": (_process, "tie"), "unlink": (_process, "untie"),
-    "unregister": (_name, "free"), "whereis": (_name, "who"), "cancel_timer": (_reference, "cancel"),
-    "purge": (_name, "purge"), "soft_purge": (_name, "soft"), "delete": (_name, "delete"),
-    "monitor": (_watch, "watch"), "exit": (_process, "exit"), "process_flag": (_flag, "trap"),
-    "register": (_give, "give"), "load": (_load, "load"), "send_after": (_timer, "timer"),
-    "start_timer": (_timer, "timer"), "demonitor": (_unwatch, "unwatch"), "spawn": (_begin, "begin"),
-    "spawn_link": (_begin, "begin"), "spawn_monitor": (_begin, "begin"),
+    "monotonic_time": _nothing, "link": _process, "unlink": _process, "unregister": _name, "whereis": _name,
+    "cancel_timer": _reference, "purge": _name, "soft_purge": _name, "delete": _name, "monitor": _watch,
+    "exit": _process, "process_flag": _flag, "register": _give, "load": _load, "send_after": _timer,
+    "start_timer": _timer, "demonitor": _unwatch, "spawn": _begin, "spawn_link": _begin, "spawn_monitor": _begin,
+}
+
+WORDS = {
+    "monotonic_time": "clock", "link": "tie", "unlink": "untie", "unregister": "free", "whereis": "who",
+    "cancel_timer": "cancel", "purge": "purge", "soft_purge": "soft", "delete": "delete", "monitor": "watch",
+    "exit": "exit", "process_flag": "trap", "register": "give", "load": "load", "send_after": "timer",
+    "start_timer": "timer", "demonitor": "unwatch", "spawn": "begin", "spawn_link": "begin", "spawn_monitor": "begin",
 }

@@ -65,14 +65,16 @@ class Preparer:
 
     def node(self, form):
         """The node of an expression."""
-        make = MAKERS.get(form[0])
-        return ("plain", form) if make is None else make(self, form)
+        if form[0] not in MAKERS:
+            return ("plain", form)
+        make = MAKERS[form[0]]
+        return make(self, form)
 
     def nodes(self, forms):
         """The nodes of expressions."""
         return tuple([self.node(form) for form in forms])
 
-    def made(self, form, word, parts, more):
+    def of_parts(self, form, word, parts, more):
         """The node of a form that is worked out of these parts alone."""
         nodes = self.nodes(parts)
         if word in PLAIN_WORDS and all([node[0] == "plain" for node in nodes]):
@@ -100,48 +102,48 @@ PLAIN_WORDS = ("tuple", "cons", "map", "op", "pure")
 
 
 def _tuple(preparer, form):
-    return preparer.made(form, "tuple", form[1], None)
+    return preparer.of_parts(form, "tuple", form[1], None)
 
 
 def _cons(preparer, form):
     parts, end = cons_parts(form)
-    return preparer.made(form, "cons", [*parts, end], None)
+    return preparer.of_parts(form, "cons", [*parts, end], None)
 
 
 def _map(preparer, form):
-    return preparer.made(form, "map", [part for row in form[1] for part in row], None)
+    return preparer.of_parts(form, "map", [part for row in form[1] for part in row], None)
 
 
 def _put(preparer, form):
     parts = [form[1], *[part for row in form[2] for part in row[1:]]]
-    return preparer.made(form, "put", parts, tuple([row[0] for row in form[2]]))
+    return preparer.of_parts(form, "put", parts, tuple([row[0] for row in form[2]]))
 
 
 def _op(preparer, form):
-    return preparer.made(form, "op", form[2], form[1])
+    return preparer.of_parts(form, "op", form[2], form[1])
 
 
 def _built(preparer, form):
     _, name, parts = form
     if looks(name, len(parts)):
-        return preparer.made(form, "ask", parts, name)
-    return preparer.made(form, name if name in OF_STATE else "pure", parts, name)
+        return preparer.of_parts(form, "ask", parts, name)
+    return preparer.of_parts(form, name if name in OF_STATE else "pure", parts, name)
 
 
 def _call(preparer, form):
-    return preparer.made(form, "call", form[2], form[1])
+    return preparer.of_parts(form, "call", form[2], form[1])
 
 
 def _send(preparer, form):
-    return preparer.made(form, "send", form[1:], None)
+    return preparer.of_parts(form, "send", form[1:], None)
 
 
 def _outer(preparer, form):
-    return preparer.made(form, "outer", [form[1], form[2], *form[3]], None)
+    return preparer.of_parts(form, "outer", [form[1], form[2], *form[3]], None)
 
 
 def _apply(preparer, form):
-    return preparer.made(form, "called", [form[1], *form[2]], None)
+    return preparer.of_parts(form, "called", [form[1], *form[2]], None)
 
 
 def _match(preparer, form):

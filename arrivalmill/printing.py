@@ -254,8 +254,9 @@ def _patterns(patterns):
 
 def _pattern_within(form, floor):
     """A pattern where nothing looser than this level can stand bare."""
-    show = PATTERN_SHOWS.get(form[0])
-    if show is None:
+    if form[0] in PATTERN_SHOWS:
+        show = PATTERN_SHOWS[form[0]]
+    else:
         show = SHOWS[form[0]]
     text = show(form)
     return "(" + text + ")" if form[0] == "alias" and MATCHED < floor else text

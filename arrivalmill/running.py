@@ -41,7 +41,9 @@ def gone_on(life, state):
 
 def _work(life, state):
     _, node, scope, stack = state
-    work = WORKS.get(node[0], _work_parts)
+    if node[0] not in WORKS:
+        return _parts_from(life, node, (), scope, scope[0], stack)
+    work = WORKS[node[0]]
     return work(life, node, scope, stack)
 
 
@@ -78,13 +80,10 @@ def _work_plain(life, node, scope, stack):
     return state_of(reckoned(node[1], scope[0], life.own), scope, stack)
 
 
-def _work_parts(life, node, scope, stack):
-    return _parts_from(life, node, (), scope, scope[0], stack)
-
-
 def _parts_from(life, node, done, scope, names, stack):
     """Works out the parts of a node behind those that are done: each sees scope; names holds what they bound."""
-    for part in node[1][len(done):]:
+    waiting = node[1][len(done):]
+    for part in waiting:
         if part[0] != "plain":
             return worked(part, scope, ("parts", node, done, scope, names), stack)
         outcome = reckoned(part[1], scope[0], life.own)

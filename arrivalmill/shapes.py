@@ -1,4 +1,4 @@
-"""What is made of terms, and taken of them: lists with their rests, maps with their keys. All that is handed in fits."""
+"""What is made of terms, and taken of them: lists with their rests, maps with their keys."""
 
 from arrivalmill.order import sort_key
 

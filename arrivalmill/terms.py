@@ -14,8 +14,10 @@ def is_term(value):
         return is_integer(value)
     if not value or not isinstance(value[0], str):
         return False
-    check = CHECKS.get(value[0])
-    return check is not None and check(value)
+    if value[0] not in CHECKS:
+        return False
+    check = CHECKS[value[0]]
+    return check(value)
 
 
 def _are_terms(values):
@@ -23,6 +25,14 @@ def _are_terms(values):
         if not is_term(value):
             return False
     return True
+
+
+def _is_reference(value):
+    return is_reference(value)
+
+
+def _is_process(value):
+    return is_process(value)
 
 
 def _is_function(value):
@@ -63,7 +73,7 @@ def _is_bytes(value):
 
 
 CHECKS = {
-    "ref": is_reference, "fun": _is_function, "pid": is_process, "tuple": _is_tuple, "map": _is_map,
+    "ref": _is_reference, "fun": _is_function, "pid": _is_process, "tuple": _is_tuple, "map": _is_map,
     "list": _is_tuple, "odd": _is_odd, "bytes": _is_bytes,
 }
 

@@ -72,16 +72,18 @@ class Walk:
                 kept[name] = scope[name]
         return self.patterns(patterns, kept, scope)
 
-    def expression(self, form, scope):
+    def through(self, form, scope):
         """The scope behind an expression (or, in what holds names, a pattern)."""
-        step = STEPS.get(form[0])
-        return scope if step is None else step(self, form, scope)
+        if form[0] not in STEPS:
+            return scope
+        step = STEPS[form[0]]
+        return step(self, form, scope)
 
     def parts(self, forms, scope):
         """The scope behind parts that each see what is bound ahead of all; what two of them bind is unsafe."""
         new = {}
         for form in forms:
-            behind = self.expression(form, scope)
+            behind = self.through(form, scope)
             for name in _news(behind, scope):
                 new[name] = _unsafe(new[name], behind[name]) if name in new else behind[name]
         return {**scope, **new}
@@ -89,7 +91,7 @@ class Walk:
     def body(self, forms, scope):
         """The scope behind expressions of which each sees what those ahead bound."""
         for form in forms:
-            scope = self.expression(form, scope)
+            scope = self.through(form, scope)
         return scope
 
     def guarded(self, guard, forms, scope):
@@ -194,13 +196,13 @@ def _apply(walk, form, scope):
 
 
 def _match(walk, form, scope):
-    behind = walk.expression(form[2], scope)
+    behind = walk.through(form[2], scope)
     return walk.patterns([form[1]], behind, behind)
 
 
 def _left_first(walk, form, scope):
-    left = walk.expression(form[1], scope)
-    return _behind_perhaps(left, walk.expression(form[2], left))
+    left = walk.through(form[1], scope)
+    return _behind_perhaps(left, walk.through(form[2], left))
 
 
 def _fun(walk, form, scope):
@@ -226,7 +228,7 @@ def _do(walk, form, scope):
 
 
 def _case(walk, form, scope):
-    behind = walk.expression(form[1], scope)
+    behind = walk.through(form[1], scope)
     return _behind_arms(behind, [walk.clause(clause, behind) for clause in form[2]])
 
 
@@ -238,7 +240,7 @@ def _receive(walk, form, scope):
     arms = [walk.clause(clause, scope) for clause in form[1]]
     if form[2]:
         time, forms = form[2]
-        arms.append(walk.body(forms, walk.expression(time, scope)))
+        arms.append(walk.body(forms, walk.through(time, scope)))
     return _behind_arms(scope, arms)
 
 
@@ -254,16 +256,16 @@ def _try(walk, form, scope):
 
 
 def _catch(walk, form, scope):
-    return _behind_perhaps(scope, walk.expression(form[1], scope))
+    return _behind_perhaps(scope, walk.through(form[1], scope))
 
 
 def _list(walk, form, scope):
     within = scope
     for way in form[2]:
-        walk.expression(way[-1], within)
+        walk.through(way[-1], within)
         if way[0] == "from":
             within = walk.fresh([way[1]], within)
-    walk.expression(form[1], within)
+    walk.through(form[1], within)
     return scope
 
 

@@ -65,67 +65,83 @@ K = NUM | - NUM | ATOM | NAME | ( K )
 """
 
 
-def grammar():
-    """The rules of the grammar: what stands for each word that stands for others."""
+class Grammar:
+    """Rules: for each word that stands for others a list of what it may stand for; classes: words for several ones."""
+
+    def __init__(self, rules, classes):
+        self.rules = rules
+        self.classes = classes
+        self.empty = {name for name, ways in rules.items() if () in ways}
+
+    def first_wrong(self, start, words):
+        """The number of the first word that cannot stand behind those ahead; len(words) if more is wanted; None."""
+        chart = [self.closed({(start, way, 0, 0) for way in self.rules[start]}, [], 0)]
+        for number, word in enumerate(words):
+            moved = {(name, way, dot + 1, at) for name, way, dot, at in chart[number]
+                     if dot < len(way) and self.fits(way[dot], word)}
+            if not moved:
+                return number
+            chart.append(self.closed(moved, chart, number + 1))
+        whole = [row for row in chart[-1] if row[0] == start and row[2] == len(row[1]) and row[3] == 0]
+        return None if whole else len(words)
+
+    def fits(self, symbol, word):
+        if symbol in self.rules:
+            return False
+        return symbol == word or word in self.classes.get(symbol, ())
+
+    def closed(self, rows, chart, at):
+        found = set(rows)
+        queue = list(rows)
+        while queue:
+            for row in self.behind(queue.pop(), found, chart, at):
+                if row not in found:
+                    found.add(row)
+                    queue.append(row)
+        return found
+
+    def behind(self, row, found, chart, at):
+        name, way, dot, begin = row
+        if dot == len(way):
+            waiting = list(found) if begin == at else chart[begin]
+            return [(n, w, d + 1, b) for n, w, d, b in waiting if d < len(w) and w[d] == name]
+        if way[dot] not in self.rules:
+            return []
+        new = [(way[dot], other, 0, at) for other in self.rules[way[dot]]]
+        return new + [(name, way, dot + 1, begin)] if way[dot] in self.empty else new
+
+    def costs(self):
+        costs = {}
+        deep = {}
+        for _ in range(40):
+            for name, ways in self.rules.items():
+                for way in ways:
+                    costs[name, way] = 1 + max([deep.get(part, 1000) for part in way if part in self.rules], default=0)
+                deep[name] = min(costs[name, way] for way in ways)
+        return costs
+
+
+def rules_of(text):
+    """The rules that a text tells, one or more ways a line."""
     rules = {}
-    for line in GRAMMAR.strip().split("\n"):
+    for line in text.strip().split("\n"):
         name, _, ways = line.partition(" = ")
         for way in (" " + ways + " ").split(" | "):
             rules.setdefault(name, []).append(tuple(way.split()))
     return rules
 
 
-RULES = grammar()
-EMPTY = {name for name, ways in RULES.items() if () in ways}
-
-
-def first_wrong(start, words):
-    """The number of the first word that cannot stand behind those ahead; len(words) if more is wanted; None."""
-    chart = [_closed({(start, way, 0, 0) for way in RULES[start]}, [], 0)]
-    for number, word in enumerate(words):
-        moved = {(name, way, dot + 1, at) for name, way, dot, at in chart[number]
-                 if dot < len(way) and _fits(way[dot], word)}
-        if not moved:
-            return number
-        chart.append(_closed(moved, chart, number + 1))
-    whole = [row for row in chart[-1] if row[0] == start and row[2] == len(row[1]) and row[3] == 0]
-    return None if whole else len(words)
-
-
-def _fits(symbol, word):
-    if symbol in RULES:
-        return False
-    return symbol == word or (symbol == "BAR" and word == "|") or (symbol == "ATOM" and word in ("module", "export"))
-
-
-def _closed(rows, chart, at):
-    found = set(rows)
-    queue = list(rows)
-    while queue:
-        name, way, dot, begin = queue.pop()
-        if dot == len(way):
-            new = [] if begin == at else [
-                (n, w, d + 1, b) for n, w, d, b in chart[begin] if d < len(w) and w[d] == name]
-            if begin == at:
-                new = [(n, w, d + 1, b) for n, w, d, b in list(found) if d < len(w) and w[d] == name]
-        elif way[dot] in RULES:
-            new = [(way[dot], w, 0, at) for w in RULES[way[dot]]]
-            if way[dot] in EMPTY:
-                new.append((name, way, dot + 1, begin))
-        else:
-            new = []
-        for row in new:
-            if row not in found:
-                found.add(row)
-                queue.append(row)
-    return found
+MODULES = Grammar(rules_of(GRAMMAR), {"BAR": ("|",), "ATOM": ("module", "export")})
+COSTS = MODULES.costs()
+WORDS = sorted({"|" if part == "BAR" else part for ways in MODULES.rules.values() for way in ways for part in way
+                if part not in MODULES.rules})
 
 
 def sentence(start, random, depth):
-    """A row of words that the grammar makes of a word, chosen by random."""
-    if start not in RULES:
-        return [start]
-    ways = RULES[start]
+    """A row of words that the grammar of modules makes of a word, chosen by random, as short as can be below a depth."""
+    if start not in MODULES.rules:
+        return ["|" if start == "BAR" else start]
+    ways = MODULES.rules[start]
     if depth <= 0:
         least = min(COSTS[start, way] for way in ways)
         ways = [way for way in ways if COSTS[start, way] == least]
@@ -133,18 +149,3 @@ def sentence(start, random, depth):
     for part in random.choice(ways):
         words.extend(sentence(part, random, depth - 1))
     return words
-
-
-def _costs():
-    costs = {}
-    deep = {}
-    for _ in range(30):
-        for name, ways in RULES.items():
-            for way in ways:
-                parts = [deep.get(part, 1000) if part in RULES else 0 for part in way]
-                costs[name, way] = 1 + max(parts, default=0)
-            deep[name] = min(costs[name, way] for way in ways)
-    return costs
-
-
-COSTS = _costs()
