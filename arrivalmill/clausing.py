@@ -12,7 +12,7 @@ CLASS_KINDS = ("name", "any", "atom")
 class ClauseReader(WordReader):
     """A reader of clauses; how whole expressions and operators are read (whole, binary) the class below it tells."""
 
-    def read_expression(self):
+    def read_whole(self):
         """The form of a whole expression."""
         return self.whole(EXPRESSION).expression
 
@@ -22,9 +22,9 @@ class ClauseReader(WordReader):
 
     def read_body(self):
         """One expression or more."""
-        forms = [self.read_expression()]
+        forms = [self.whole(EXPRESSION).expression]
         while self.passes(","):
-            forms.append(self.read_expression())
+            forms.append(self.whole(EXPRESSION).expression)
         return tuple(forms)
 
     def read_guard(self):
@@ -113,7 +113,7 @@ class ClauseReader(WordReader):
     def read_case(self):
         """A case."""
         self.want("case")
-        subject = self.read_expression()
+        subject = self.read_whole()
         self.want("of")
         clauses = self.read_clauses()
         self.want("end")
@@ -140,7 +140,7 @@ class ClauseReader(WordReader):
         clauses = () if self.kind() == "after" else self.read_clauses()
         after = ()
         if self.passes("after"):
-            time = self.read_expression()
+            time = self.read_whole()
             self.want("->")
             after = (time, self.read_body())
         self.want("end")

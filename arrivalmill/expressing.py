@@ -23,7 +23,7 @@ class ExpressionReader(ClauseReader):
         """A whole expression, a pattern or a map's key."""
         if self.kind() == "catch" and may & EXPRESSION:
             self.take()
-            return Cover(EXPRESSION, ("catch", self.read_expression()), None)
+            return Cover(EXPRESSION, ("catch", self.read_whole()), None)
         return self.matched(may)
 
     def matched(self, may):
@@ -105,12 +105,12 @@ class ExpressionReader(ClauseReader):
 
     def put_row(self):
         """A row that is put to a map."""
-        key = self.read_expression()
+        key = self.read_whole()
         sign = self.kind()
         if sign != "=>" and sign != ":=":
             self.fail()
         self.take()
-        return (sign, key, self.read_expression())
+        return (sign, key, self.read_whole())
 
     def primary(self, may):
         """What no operator stands in, but within signs of its own."""
@@ -160,7 +160,7 @@ class ExpressionReader(ClauseReader):
         if kind == ATOM or kind == NAME:
             return (PLAIN_FIRSTS[kind], self.take())
         self.want("(")
-        form = self.read_expression()
+        form = self.read_whole()
         self.want(")")
         return form
 
@@ -253,7 +253,7 @@ class ExpressionReader(ClauseReader):
         """One way: a pattern with a list, or a test."""
         cover = self.whole(EITHER)
         if is_one(cover, PATTERN) and self.passes("<-"):
-            return ("from", cover.pattern, self.read_expression())
+            return ("from", cover.pattern, self.read_whole())
         if not is_one(cover, EXPRESSION):
             self.fail()
         return ("if", cover.expression)

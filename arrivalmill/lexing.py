@@ -150,6 +150,6 @@ def _string_at(text, at):
 
 def _sign_at(text, at):
     for sign in SIGNS:
-        if text.startswith(sign, at):
+        if text[at:at + len(sign)] == sign:
             return (sign, None, len(sign))
     return WRONG

@@ -32,7 +32,7 @@ def program_of(module):
         for clause in clauses:
             walk.clause(clause, {})
     preparer = Preparer(walk.bound_at_funs)
-    functions = {(name, many): preparer.clauses(clauses) for name, many, clauses in forms}
+    functions = {(name, many): preparer.clause_nodes(clauses) for name, many, clauses in forms}
     return Program(module.name, module.exports, functions, preparer.funs)
 
 
@@ -81,7 +81,7 @@ class Preparer:
             return ("plain", form)
         return (word, nodes, more)
 
-    def clauses(self, clauses):
+    def clause_nodes(self, clauses):
         """Clauses, with the nodes of their bodies."""
         return tuple([(patterns, guard, self.nodes(body)) for patterns, guard, body in clauses])
 
@@ -90,7 +90,7 @@ class Preparer:
         names = held_names(form, tuple(self.bound[number]))
         known = names if own is None else (*names, own)
         kept = []
-        for patterns, guard, body in self.clauses(clauses):
+        for patterns, guard, body in self.clause_nodes(clauses):
             heads, _ = names_in(patterns)
             hidden = tuple([name for name in known if name in heads])
             kept.append((patterns, guard, body, hidden))
@@ -174,21 +174,22 @@ def _do(preparer, form):
 
 
 def _case(preparer, form):
-    return ("case", preparer.node(form[1]), preparer.clauses(form[2]))
+    return ("case", preparer.node(form[1]), preparer.clause_nodes(form[2]))
 
 
 def _if(preparer, form):
-    return ("if", preparer.clauses(form[1]))
+    return ("if", preparer.clause_nodes(form[1]))
 
 
 def _receive(preparer, form):
     after = (preparer.node(form[2][0]), preparer.nodes(form[2][1])) if form[2] else ()
-    return ("receive", preparer.clauses(form[1]), after)
+    return ("receive", preparer.clause_nodes(form[1]), after)
 
 
 def _try(preparer, form):
     _, body, clauses, caught, after = form
-    return ("try", preparer.nodes(body), preparer.clauses(clauses), preparer.clauses(caught), preparer.nodes(after))
+    told, caught_told = preparer.clause_nodes(clauses), preparer.clause_nodes(caught)
+    return ("try", preparer.nodes(body), told, caught_told, preparer.nodes(after))
 
 
 def _catch(preparer, form):

@@ -44,7 +44,7 @@ def _is_entry(value):
 def read_expression(text):
     """The form of one whole expression."""
     reader = ExpressionReader(text)
-    form = reader.read_expression()
+    form = reader.read_whole()
     reader.end_well()
     return form
 

@@ -125,7 +125,7 @@ class TermReader:
             return ("tuple", *self.row("}"))
         if sign == "[":
             self.at += 1
-            return self.list_parts()
+            return self.list_term()
         if sign == "<":
             return self.angled()
         self.want("#")
@@ -233,7 +233,7 @@ class TermReader:
         self.want(end)
         return tuple(terms)
 
-    def list_parts(self):
+    def list_term(self):
         """A list, odd or not, behind its bracket."""
         if self.passes("]"):
             return ("list",)
