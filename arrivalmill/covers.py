@@ -41,10 +41,6 @@ class WordReader:
         """The kind of the word that comes next."""
         return self.words[self.at][0]
 
-    def kind_behind(self):
-        """The kind of the word behind the next one."""
-        return self.words[self.at + 1][0] if self.at + 1 < len(self.words) else OVER
-
     def place(self):
         """Where the word stands that comes next."""
         return self.words[self.at][2:]

@@ -25,6 +25,7 @@ X ; 1 ; X 2 ; no
 X ; 1 ; A 2, Z 3 ; A 2, X 1, Z 3
 _X ; 1 ; ; _X 1
 <<1,2>> ; <<1,2>> ; ; =
+<<0,255>> ; <<0,255>> ; ; =
 <<1,2>> ; <<1>> ; ; no
 <<>> ; <<>> ; ; =
 <<1>> ; [1] ; ; no
@@ -95,7 +96,7 @@ NO_PATTERNS = (
     ("cons", ("any",)), ("cons", ("any",), 1), ("cons", 1, ("any",)), ("cons", ("any",), ("any",), ("any",)), ("map", (("any",), ("any",))),
     ("map", ((("any",), ("any",)),)), ("map", ((("atom", "a"),),)), ("map", ((("tuple", ()), ("any",)),)), ("map", ((("atom", "a"), 1),)),
     ("map", [(("atom", "a"), ("any",))]), ("map", ((("number", True), ("any",)),)), ("map", ([("atom", "a"), ("any",)],)), ("map",),
-    ("alias", ("any",)), ("alias", ("any",), None), ("op", "-", (("number", 1),)), ("match", ("any",), ("any",)), ("call", "f", ()),
+    ("alias", ("any",)), ("alias", ("any",), None), ("alias", None, ("any",)), ("op", "-", (("number", 1),)), ("match", ("any",), ("any",)), ("call", "f", ()),
     ("tuple", (("op", "+", (("number", 1), ("number", 2))),)), ("word",), (("any",),), ("map", ((("bytes", (1,)), ("any",)),)),
 )
 NO_NAMES = (
@@ -155,7 +156,7 @@ class Lets(Case):
         for text in ("true", "true, true", "false; true", "1; a; true", "hd([]); true", "X; true", "false, true; true", "1 == 1", "not false",
                      "length([1, 2]) == 2, element(2, {a, true})", "true andalso true", "false orelse true", "1 < a", "{1, 2} == {1, 2}",
                      "#{a => 1, a => 2} == #{a => 2}", "map_get(a, #{a => true})", "is_function(a, 0), false; true",
-                     "[1 | 2] < [1]", "\"ab\" == [97, 98]", "<<1>> > []", "hd([true | b])", "self() == self()", "is_pid(self())"):
+                     "[1 | 2] < [1]", "\"ab\" == [97, 98]", "<<0, 255>> > []", "hd([true | b])", "self() == self()", "is_pid(self())"):
             self.assertIs(True, self.lets(text), text)
         for text in ("false", "1", "a", "true, false", "false; false", "true, 1", "X", "hd([])", "1 + a", "1 + a == 2", "not 1", "1 andalso true",
                      "1 orelse true", "true andalso 1", "false orelse 1", "length([1 | 2]) > 0", "{true}", "[true]", "map_get(b, #{a => true})",

@@ -45,7 +45,8 @@ ROWS = (
     ("f(F) -> fun F(_) -> F end.", "hidden F, unused F"), ("f(F) -> fun F(_) -> 1 end, F.", "hidden F"), ("f() -> fun F(F) -> F end.", "hidden F"),
     ("f() -> catch X = 1, fun (X) -> X end.", "hidden X, unused X"), ("f() -> catch X = 1, fun () -> X end.", "unsafe X"),
     ("f() -> catch X = 1, fun X() -> X end.", "hidden X, unused X"), ("f(X) -> fun (X) when X -> 1; (_) -> X end.", "hidden X"),
-    ("f(X) -> fun (_) -> fun (X) -> X end end.", "hidden X, unused X"),
+    ("f(X) -> fun (_) -> fun (X) -> X end end.", "hidden X, unused X"), ("f() -> fun F(_) -> 1 end, X = 1.", "unused X"),
+    ("f(L) -> fun F(Y) -> F end, X = 1, X.", "unused L, unused Y"),
     # ways
     ("f(L) -> [X || X <- L].", ""), ("f(L) -> [1 || X <- L].", "unused X"), ("f(L) -> [X || X <- L], X.", "unbound X"),
     ("f(X) -> [X || X <- X].", "hidden X"), ("f(L) -> [X || X <- L, X <- L].", "hidden X, unused X"), ("f(L) -> [X || X <- L, X, X <- L].", "hidden X"),

@@ -1,5 +1,6 @@
 """Section 6, reading: what texts are read to, and where they break off."""
 
+import itertools
 import random
 import unittest
 
@@ -27,12 +28,18 @@ def op(sign, *parts):
     return ("op", sign, parts)
 
 
+def two(sign, one, other):
+    words = {"orelse": "either", "andalso": "both"}
+    return (words[sign], one, other) if sign in words else op(sign, one, other)
+
+
 FORMS = {
     # words
     "12": n(12), "007": n(7), "2#101": n(5), "16#fF": n(255), "36#zZ": n(1295), "$a": n(97), "$$": n(36), "$'": n(39),
     "$\\n": n(10), "$\\t": n(9), "$\\s": n(32), "$\\\\": n(92), "$.": n(46), "ok": ("atom", "ok"), "'end'": ("atom", "end"),
     "'a'": A, "'1_@'": ("atom", "1_@"), "aB_@9": ("atom", "aB_@9"), "ending": ("atom", "ending"), "X": X,
     "_x": ("name", "_x"), "__": ("name", "__"), "_1": ("name", "_1"), "Abcdefghijklmno9": ("name", "Abcdefghijklmno9"),
+    "abcdefghijklmnop": ("atom", "abcdefghijklmnop"), "'Abcdefghijklmnop'": ("atom", "Abcdefghijklmnop"), "255 + <<0>>": op("+", n(255), ("bytes", (0,))),
     "\"ab\"": conses(n(97), n(98)), "\"\"": NIL, "\"a\" \"b\"\n\"\"\"c\"": conses(n(97), n(98), n(99)),
     "\"\\\"\\\\\\n\\t\"": conses(n(34), n(92), n(10), n(9)), "  12\n": n(12), "X<-1": None, "X=<1": op("=<", X, n(1)),
     # the table of expressions
@@ -154,6 +161,21 @@ class Expressions(Case):
         for text, form in FORMS.items():
             if form is not None:
                 self.assertEqual(form, read_expression(text), text)
+
+    def test_each_operator_beside_each_other_one(self):
+        rows = ("orelse", "andalso", "== /= =< < >= > =:= =/=", "++ --", "+ - bor bxor bsl bsr or xor", "* div rem band and")
+        levels = {sign: level for level, row in enumerate(rows) for sign in row.split()}
+        for one, other in itertools.product(levels, repeat=2):
+            text = "a " + one + " b " + other + " c"
+            to_left = levels[one] > levels[other] or (levels[one] == levels[other] and levels[one] > 3)
+            if levels[one] == levels[other] == 2:
+                self.assertEqual((1, 6 + len(one)), self.place(text))
+            elif to_left:
+                self.assertEqual(two(other, two(one, A, B), C), read_expression(text), text)
+            else:
+                self.assertEqual(two(one, A, two(other, B, C)), read_expression(text), text)
+        for one, other in itertools.product(("-", "bnot", "not"), levels):
+            self.assertEqual(two(other, op(one, A), op(one, B)), read_expression(one + " a " + other + " " + one + " b"))
 
     def test_words_parted_by_blanks_and_line_feeds(self):
         for text, form in FORMS.items():

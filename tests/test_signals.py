@@ -84,7 +84,7 @@ class Deeds(Case):
 
     def test_errors(self):
         for value in (*NO_TERMS, 1, "a", A, ("list",), ("tuple", P), MODULE, (P,), ["pid", ()]):
-            for call, arguments in ((born, (value, value, "alone", None)), (born, (Q, value, "tied", None)), (begun, (FRESH, value, "alone", None)),
+            for call, arguments in ((born, (value, P, "alone", None)), (born, (value, None, "tied", None)), (born, (Q, value, "tied", None)), (begun, (FRESH, value, "alone", None)),
                                     (tie, (FRESH, value)), (untie, (FRESH, value))):
                 self.raises(BadTerm, value, call, *arguments)
             if value is not None:

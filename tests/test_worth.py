@@ -118,6 +118,11 @@ false orelse X = 1
 a orelse true ! error {badarg,a}
 id([]) andalso true ! error {badarg,[]}
 id(true) andalso id(5) = 5
+true andalso id(5) = 5
+false orelse id(5) = 5
+X andalso id(5) ! error {badarg,1}
+false andalso link(a) = false
+true orelse link(a) = true
 id(false) orelse id(5) = 5
 throw(a) andalso true ! throw a
 true andalso (false orelse {X}) = {1}
