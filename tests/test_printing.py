@@ -14,6 +14,8 @@ SAME = (
     "12", "ok", "'end'", "'Big'", "'1'", "X", "<<1, 255>>", "<<>>", "[]", "{}", "{a, {b}}", "[X | Y]", "[X, Y | Z]", "[X, Y]",
     "[[X], []]", "#{}", "#{a => b, X => c}", "X#{a => b, b := c}", "X#{a => b}#{b := c}", "f(X)#{a => b}",
     "2#{a => b}", "[X]#{a => b}", "begin X end#{a => b}", "(-X)#{a => b}", "-X#{a => b}", "X = Y", "X = Y = Z", "(X = Y) = Z",
+    "X == Y andalso Z == X", "X == Y orelse Z == X", "X andalso Y orelse Z andalso X", "X + Y == Z * X", "X ++ Y == Z ++ X",
+    "X orelse Y ! Z orelse X", "X = Y orelse Z", "X + Y ++ Z + X", "X * Y + Z * X", "-X * -Y", "not X == not Y", "-X#{a => b} * Y",
     "X ! Y ! Z", "(X ! Y) ! Z", "X = Y ! Z", "X ! Y = Z", "(X = Y) ! Z", "-X", "-3", "-(-3)", "-(not X)", "not (-X)",
     "bnot X", "not (X and Y)", "not X == Y", "-(X + Y)", "-f(X)", "X - -Y", "X andalso Y andalso Z", "(X andalso Y) andalso Z",
     "X orelse Y orelse Z", "(X orelse Y) orelse Z", "(X orelse Y) andalso Z", "X andalso (Y orelse Z)", "X andalso Y orelse Z",
