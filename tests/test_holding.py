@@ -187,7 +187,7 @@ class Lets(Case):
                 1, None, True, "", [], {}, MODULE, (one,), ((),), ((one,), ()), ([one],), [(one,)], ((1,),), ((call,),), ((one, call),),
                 ((("number", -1),),), ((("number", True),),), ((("any",),),), ((("alias", one, one),),), ((("op", "++", (one, one)),),),
                 ((("op", "--", (one, one)),),), ((("op", "+", (one,)),),), ((("op", "not", (one, one)),),), ((("op", "andalso", (one, one)),),),
-                ((("op", "!", (one, one)),),), ((("op", "+", [one, one]),),), ((("op", "+", one),),), ((("op", 1, (one, one)),),),
+                ((("op", "!", (one, one)),),), ((("op", "+", [one, one]),),), ((("op", "+", one),),), ((("op", 1, (one, one)),),), ((("op", ["+"], (one, one)),),), ((("built", ["hd"], (one,)),),),
                 ((("built", "hd", ()),),), ((("built", "setelement", (one, one, one)),),), ((("built", "make_ref", ()),),),
                 ((("built", "foo", ()),),), ((("built", "link", (one,)),),), ((("built", 1, ()),),), ((("call", "hd", (one,)),),),
                 ((("tuple", (call,)),),), ((("cons", one, call),),), ((("cons", call, one),),), ((("map", ((one,),)),),),

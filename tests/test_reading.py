@@ -134,7 +134,7 @@ WRONG = {
     "fun X:f/1": 6, "fun m:X/1": 7, "fun f/-1": 7, "<<256>>": 3, "<<1,>>": 5, "<<a>>": 3, "<<-1>>": 3, "<<X>>": 3, "<<1": 4,
     "a.": 2, "a b": 3, "1.5": 2, "12ab": 3, "a , b": 3, "end": 1, "X end": 3, "begin a, end": 10, "begin end": 7, "X = ": 5,
     "2#12": 1, "2#": 3, "37#1": 1, "1#0": 1, "0#1": 1, "16#fg": 1, "''": 1, "'a b'": 1, "'abc": 1, "'abcdefghijklmnopq'": 1,
-    "abcdefghijklmnopq": 1, "Abcdefghijklmnopq": 1, "\"a": 1, "\"a\nb\"": 1, "\"\\x\"": 1, "$": 1, "$ ": 1, "$\\x": 1, "$\\": 1,
+    "abcdefghijklmnopq": 1, "Abcdefghijklmnopq": 1, "\"a": 1, "\"a\nb\"": 1, "\"\\x\"": 1, "$": 1, "$ ": 1, "$\n": 1, "$\na": 1, "$\\x": 1, "$\\": 1,
     "?": 1, "a ? b": 3, "a & b": 3, "a ~ b": 3, "f(a;": 4, "X <- Y": 3, "a || b": 3, "a -> b": 3, "#{a}": 4, "#": 2, "# a": 3,
     "\"a\" ++": 7, "- ": 3, "fun (_ = 1 + 2) -> a end": 12, "fun (-X) -> a end": 7, "fun (\"a\" ++ X + 1) -> a end": 15,
     "fun (#{X + 1 := a}) -> a end": 10, "fun (#{{a} := a}) -> a end": 8, "fun ([X || a]) -> a end": 9, "fun (X#{a := b}) -> a end": 7,
@@ -232,6 +232,8 @@ class Expressions(Case):
                 "fun () -> 1; (A,B,C,D,E,F,G,H,I,J) -> 1 end": ("many", 1, 14), "if f() -> 1 end": ("guard", 1, 4),
                 "fun X(A,B,C,D,E,F,G,H,I,J) -> 1 end": ("many", 1, 5)}.items():
             self.assertEqual(value, self.bad_form(text, read_expression), text)
+        for text in ("fun (A,B,C,D,E,F,G,H,I) -> 1 end", "fun X(A,B,C,D,E,F,G,H,I) -> 1; X(A,B,C,D,E,F,G,H,I) -> 2 end"):
+            self.assertEqual(9, len(read_expression(text)[-1][0][0]))
 
     def test_tests_that_are_none(self):
         lets = ("1", "a", "X", "<<1>>", "[]", "{X, 1}", "[X | Y]", "\"ab\"", "#{a => X}", "X + 1", "-X", "not X", "X == 1",
