@@ -75,7 +75,7 @@ def _apply(life, _node, terms, scope, stack):
     if not is_list(terms[-1]):
         return fallen(failing("badarg"), stack)
     if len(terms) == 2:
-        return _call_term(life, terms[0], terms[1][1:], scope, stack)
+        return call_term(life, terms[0], terms[1][1:], scope, stack)
     return _full_call(terms[0], terms[1], terms[2][1:], scope, stack)
 
 
@@ -90,7 +90,7 @@ def _full_call(module, name, terms, scope, stack):
 
 
 def _called(life, _node, terms, scope, stack):
-    return _call_term(life, terms[0], terms[1:], scope, stack)
+    return call_term(life, terms[0], terms[1:], scope, stack)
 
 
 def _call_own(life, node, terms, scope, stack):
@@ -125,7 +125,7 @@ def _with_way_back(scope, stack):
     return (("back", scope), stack)
 
 
-def _call_term(life, term, terms, scope, stack):
+def call_term(life, term, terms, scope, stack):
     """The state that a call of any term begins with."""
     if not is_kind(term, "fun") or not _is_there(life, term):
         return fallen(failing_with("badfun", term), stack)

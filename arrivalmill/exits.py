@@ -95,11 +95,12 @@ def _want_signal(sender, signal):
     is_book = isinstance(sender, str) and sender == "names"
     if not is_book and not is_process(sender):
         raise BadTerm(sender)
-    if not _is_signal(signal) or (is_book and signal[0] != "notice"):
+    if not is_signal(signal) or (is_book and signal[0] != "notice"):
         raise BadSignal(signal)
 
 
-def _is_signal(value):
+def is_signal(value):
+    """Whether any value is a signal between processes."""
     if not isinstance(value, tuple) or not value or not isinstance(value[0], str):
         return False
     form = (value[0], len(value))

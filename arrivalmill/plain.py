@@ -1,14 +1,14 @@
 """What a program means: patterns held against terms, guards, and what calls come to, worked out plainly."""
 
-from arrivalmill.errors import BadBook, BadGuard, BadNames, BadPattern, BadTerm, BadTerms, Undefined
+from arrivalmill.errors import BadBook, BadGuard, BadPattern, BadTerm, BadTerms, Undefined
 from arrivalmill.forms import is_guard, is_pattern
 from arrivalmill.holding import names_behind
 from arrivalmill.looker import is_sound
+from arrivalmill.naming import dict_of_names, row_of_names
 from arrivalmill.preparing import program_of
 from arrivalmill.reading import Module
 from arrivalmill.reckoning import guard_lets
 from arrivalmill.running import Life, answered_full, begun_state, gone_on
-from arrivalmill.signs import is_name
 from arrivalmill.terms import is_term
 
 FIRST = ("pid", ())
@@ -21,35 +21,21 @@ def held(pattern, term, names):
         raise BadPattern(pattern)
     if not is_term(term):
         raise BadTerm(term)
-    ahead = _dict_of(names)
+    ahead = dict_of_names(names)
     found = names_behind((pattern,), (term,), ahead, ahead)
-    return None if found is None else tuple([(name, found[name]) for name in sorted(found)])
+    return None if found is None else row_of_names(found)
 
 
 def lets(guard, names):
     """Whether a guard lets in the first process."""
     if not is_guard(guard):
         raise BadGuard(guard)
-    return guard_lets(guard, _dict_of(names), FIRST)
-
-
-def _dict_of(names):
-    """Names with their terms as a dict; BadNames unless they are an ascending tuple."""
-    if not isinstance(names, tuple) or not all([_is_named(pair) for pair in names]):
-        raise BadNames(names)
-    for one, other in zip(names, names[1:]):
-        if not one[0] < other[0]:
-            raise BadNames(names)
-    return {name: term for name, term in names}
-
-
-def _is_named(value):
-    return isinstance(value, tuple) and len(value) == 2 and is_name(value[0]) and is_term(value[1])
+    return guard_lets(guard, dict_of_names(names), FIRST)
 
 
 def worth(modules, module, function, terms):
     """What a call comes to in the first process: a term, what it raises, or the first word of its first look."""
-    if not _is_book(modules):
+    if not is_book(modules):
         raise BadBook(modules)
     if not isinstance(terms, tuple) or not all([is_term(term) for term in terms]):
         raise BadTerms(terms)
@@ -58,7 +44,8 @@ def worth(modules, module, function, terms):
     return _told(modules, module, function, terms)
 
 
-def _is_book(value):
+def is_book(value):
+    """Whether any value is a tuple of one to six sound Modules of unlike names."""
     if not isinstance(value, tuple) or not 1 <= len(value) <= MOST_MODULES:
         return False
     names = []

@@ -184,7 +184,7 @@ def _came_to_time(_life, frame, term, behind, stack):
     """A receive: its clauses see the scope ahead of the time, its after's body the one behind it."""
     _, clauses, body, scope = frame
     if term == "infinity":
-        return ("asks", "receive", (clauses, None, (), scope), scope, stack)
+        return ("asks", "receive", (clauses, None, body, behind), scope, stack)
     if not isinstance(term, int) or term < 0:
         return fallen(failing("timeout_value"), stack)
     return ("asks", "receive", (clauses, term, body, behind), scope, stack)

@@ -254,11 +254,11 @@ class TermReader:
         self.want("<")
         if self.passes("<"):
             return self.byte_row()
-        path = self.path(">")
+        path = self.path_term(">")
         self.want(">")
         return ("pid", path)
 
-    def path(self, end):
+    def path_term(self, end):
         """The numbers of a path, up to this sign, which is left."""
         if self.sign() == end:
             return ()
@@ -269,7 +269,7 @@ class TermReader:
 
     def reference(self):
         """A reference, behind its first two signs."""
-        path = self.path(":")
+        path = self.path_term(":")
         self.want(":")
         number = self.figures(1)
         self.want(">")

@@ -63,7 +63,7 @@ def fell(life, state):
         if frame[0] == "catch":
             return ("came", _caught(word, reason), frame[1], stack)
         if frame[0] == "after":
-            return body_state(frame[1], frame[2], (("raised", word, reason), stack))
+            return body_state(frame[1], frame[2], (("raised", word, reason, frame[2]), stack))
         if frame[0] == "try":
             found = first_taken(frame[1][3], (word, reason), frame[2][0], life.own)
             if found is not None:

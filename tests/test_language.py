@@ -209,7 +209,7 @@ class Statements(unittest.TestCase):
                     self.assertIn(told, ("tuple", "list", "dict", "join"), (name, node.lineno))
                     allowed.append(argument)
                 elif isinstance(node.func, ast.Name) and node.func.id in EATERS and len(node.args) == 1:
-                    self.assertIsInstance(argument, (ast.ListComp, ast.Name, ast.Attribute, ast.Call))
+                    self.assertIsInstance(argument, (ast.ListComp, ast.List, ast.Dict, ast.Name, ast.Attribute, ast.Call))
         self.assertEqual(len(allowed), len(list(each(ast.GeneratorExp))))
 
     def test_errors_are_made_where_they_are_raised(self):

@@ -1,0 +1,131 @@
+"""Systems, and the weavings of their steps."""
+
+from arrivalmill.errors import BadModules, BadStart, BadWeaving, NoProcess, Unsound
+from arrivalmill.looker import is_sound
+from arrivalmill.preparing import program_of
+from arrivalmill.reading import Module
+from arrivalmill.signs import is_atom, is_path
+from arrivalmill.terms import inner_terms, is_term
+from arrivalmill.world import can_do, world_after, world_begun
+
+MOST_MODULES = 6
+MOST_TERMS = 9
+SENDERS = {"clock": 1, "names": 2}
+
+
+class System:
+    """Modules, and the full call with which a run of them begins."""
+
+    def __init__(self, modules, start):
+        if not isinstance(modules, tuple) or not 1 <= len(modules) <= MOST_MODULES:
+            raise BadModules(modules)
+        if not all([isinstance(module, Module) for module in modules]):
+            raise BadModules(modules)
+        for number, module in enumerate(modules):
+            if not is_sound(module):
+                raise Unsound(number)
+        if not is_start(start) or [term for term in start[2] if inner_terms(term)]:
+            raise BadStart(start)
+        self.modules = modules
+        self.start = start
+        self.texts = _texts_of(modules)
+
+    def __eq__(self, other):
+        return isinstance(other, System) and self.modules == other.modules and self.start == other.start
+
+
+def _texts_of(modules):
+    """The programs of each name, in the sequence of their modules."""
+    texts = {}
+    for module in modules:
+        texts[module.name] = (*texts.get(module.name, ()), program_of(module))
+    return texts
+
+
+def is_start(value):
+    """Whether any value is (module, function, arguments), of any terms."""
+    if not isinstance(value, tuple) or len(value) != 3 or not is_atom(value[0]) or not is_atom(value[1]):
+        return False
+    if not isinstance(value[2], tuple) or len(value[2]) > MOST_TERMS:
+        return False
+    return all([is_term(term) for term in value[2]])
+
+
+def worlds_along(system, weaving):
+    """The worlds ahead of each step of a weaving, and behind it; BadWeaving for what is none."""
+    if not isinstance(weaving, tuple):
+        raise BadWeaving(-1)
+    worlds = [world_begun(system.texts, system.start)]
+    for number, step in enumerate(weaving):
+        if not can_do(worlds[-1], step):
+            raise BadWeaving(number)
+        worlds.append(world_after(worlds[-1], step))
+    return worlds
+
+
+def world_behind(system, weaving):
+    """The world behind a weaving; BadWeaving for what is none."""
+    return worlds_along(system, weaving)[-1]
+
+
+def next_steps(system, weaving):
+    """All steps that can be done next."""
+    return steps_next(world_behind(system, weaving))
+
+
+def steps_next(world):
+    """All steps that can be done next in a world: goes, comes, and the tick."""
+    goes = [("go", path) for path in sorted(world.doers) if world.doers[path].there is not None]
+    comes = [("come", sender, to) for sender, to in _pairs_on_way(world)]
+    return (*goes, *comes, ("tick",))
+
+
+def _pairs_on_way(world):
+    return sorted(list(world.on_way), key=_pair_key)
+
+
+def _pair_key(pair):
+    """Paths come ahead of the clock, that ahead of the name book."""
+    sender, to = pair
+    if isinstance(sender, str):
+        return (SENDERS[sender], (), to)
+    return (0, sender, to)
+
+
+def story(system, weaving, path):
+    """The looks that a process has done."""
+    return _process(world_behind(system, weaving), path).story
+
+
+def _process(world, path):
+    if not is_path(path) or path not in world.doers:
+        raise NoProcess(path)
+    return world.doers[path]
+
+
+def standing(system, weaving):
+    """For each process that was begun: (path, word, box)."""
+    world = world_behind(system, weaving)
+    doers = [world.doers[path] for path in sorted(world.doers)]
+    return tuple([(doer.path, _word_of(doer), doer.box) for doer in doers])
+
+
+def _word_of(doer):
+    if doer.ended:
+        return "ended"
+    return "waits" if doer.there is None else "ready"
+
+
+def on_way(system, weaving):
+    """The signals that are on the way, for each pair of doers: (from, to, signals)."""
+    world = world_behind(system, weaving)
+    rows = []
+    for pair in _pairs_on_way(world):
+        rows.append((*pair, tuple([signal for signal, _ in world.on_way[pair]])))
+    return tuple(rows)
+
+
+def heard(system, weaving, path):
+    """All that a process got from outside: (signals, answers)."""
+    doer = _process(world_behind(system, weaving), path)
+    return (doer.heard, doer.answers)
