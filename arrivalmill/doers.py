@@ -13,7 +13,8 @@ class Doer:
     state is that of its plain steps; there tells the look that is there, None if there is none:
     ("look",) as its state asks for it, ("took", number of the letter, body, names), ("over",), ("wait", time), or
     ("end", reason). waiting is the number of the wait behind which it waits, None if there is none.
-    heard are the signals that came as long as it lived, arrivals all of them, as records tell them.
+    heard are the signals that came as long as it lived, arrivals all of them, as records tell them. tale and code are
+    kept for searches: numbers for its story and for all of it.
     """
 
     def __init__(self, path, keeps):
@@ -33,6 +34,7 @@ class Doer:
         self.ended = False
         self.begun_by = None
         self.trail = ()
+        self.tale = (0, 0)
         self.code = None
 
 
@@ -53,6 +55,7 @@ def copy_of(doer):
     other.ended = doer.ended
     other.begun_by = doer.begun_by
     other.trail = doer.trail
+    other.tale = doer.tale
     return other
 
 

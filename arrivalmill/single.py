@@ -128,7 +128,9 @@ def _want_signals(path, value):
         raise BadSignals(-1)
     ahead = 0
     for number, row in enumerate(value):
-        if not isinstance(row, tuple) or len(row) != 3 or not is_count(row[2], ahead) or not _can_come(path, *row[:2]):
+        if not isinstance(row, tuple) or len(row) != 3 or not is_count(row[2], ahead):
+            raise BadSignals(number)
+        if not _can_come(path, row[0], row[1]):
             raise BadSignals(number)
         ahead = row[2]
 

@@ -53,14 +53,27 @@ def is_start(value):
 
 def worlds_along(system, weaving):
     """The worlds ahead of each step of a weaving, and behind it; BadWeaving for what is none."""
-    if not isinstance(weaving, tuple):
-        raise BadWeaving(-1)
+    worlds, wrong = _worlds_and_wrong(system, weaving)
+    if wrong is not None:
+        raise BadWeaving(wrong)
+    return worlds
+
+
+def _worlds_and_wrong(system, weaving):
+    """The worlds along a weaving as far as it can be done, and the number of its first wrong step, None without one."""
     worlds = [world_begun(system.texts, system.start)]
+    if not isinstance(weaving, tuple):
+        return worlds, -1
     for number, step in enumerate(weaving):
         if not can_do(worlds[-1], step):
-            raise BadWeaving(number)
+            return worlds, number
         worlds.append(world_after(worlds[-1], step))
-    return worlds
+    return worlds, None
+
+
+def is_weaving(system, value):
+    """Whether any value is a weaving."""
+    return _worlds_and_wrong(system, value)[1] is None
 
 
 def world_behind(system, weaving):
@@ -76,11 +89,12 @@ def next_steps(system, weaving):
 def steps_next(world):
     """All steps that can be done next in a world: goes, comes, and the tick."""
     goes = [("go", path) for path in sorted(world.doers) if world.doers[path].there is not None]
-    comes = [("come", sender, to) for sender, to in _pairs_on_way(world)]
+    comes = [("come", sender, to) for sender, to in pairs_on_way(world)]
     return (*goes, *comes, ("tick",))
 
 
-def _pairs_on_way(world):
+def pairs_on_way(world):
+    """The pairs (from, to) with signals on the way, in the sequence of comes."""
     return sorted(list(world.on_way), key=_pair_key)
 
 
@@ -120,7 +134,7 @@ def on_way(system, weaving):
     """The signals that are on the way, for each pair of doers: (from, to, signals)."""
     world = world_behind(system, weaving)
     rows = []
-    for pair in _pairs_on_way(world):
+    for pair in pairs_on_way(world):
         rows.append((*pair, tuple([signal for signal, _ in world.on_way[pair]])))
     return tuple(rows)
 

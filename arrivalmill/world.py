@@ -264,7 +264,7 @@ def _begin(world, parent, look):
     if how == "tied":
         doer.heard = ((parent.path, ("tie", 0), 0),)
     if start[0] == "call":
-        doer.state = begun_state(*start[1:])
+        doer.state = begun_state(start[1], start[2], start[3])
     else:
         doer.state = call_term(Life(child[1], world.shelf.book), start[1], (), ({}, None), None)
     _go_on(world, doer)

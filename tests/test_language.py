@@ -281,6 +281,14 @@ class Names(unittest.TestCase):
             for keyword in node.keywords:
                 self.assertEqual("key", keyword.arg, (name, node.lineno))
                 self.assertEqual("sorted", node.func.id)
+                self.assertIn(keyword.value.id, tops_of(TREES[name]) + imports_of(TREES[name]), (name, node.lineno))
+
+    def test_stars_in_calls(self):
+        for name, node in each(ast.Call):
+            for argument in node.args:
+                if isinstance(argument, ast.Starred):
+                    self.assertIsInstance(argument.value, (ast.Name, ast.Attribute), (name, node.lineno))
+                    self.assertIs(argument, node.args[-1])
 
     def test_underscore_is_never_read(self):
         for name, node in each(ast.Name):
