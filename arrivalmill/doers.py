@@ -150,5 +150,6 @@ def look_ended(doer, reason):
     doer.story = (*doer.story, ("end", reason))
     doer.there = None
     doer.state = ("gone",)
+    doer.waiting = None
     doer.box = ()
     doer.ended = True

@@ -23,6 +23,17 @@ BOXES = """
 (2, 0, (('X', 'a'), ('Y', 2)))
 """
 
+HEADS = """
+>>> from arrivalmill.heads import Heads, clause_taken, fitting
+>>> from arrivalmill.questions import settled
+>>> x, any_one = ('name', 'X'), ('any',)
+>>> pair = Heads((((('tuple', (x, x)),), (), ()), ((('cons', ('number', 1), any_one),), (), ()), ((any_one,), ('test',), ())), ())
+>>> [fitting(pair, (('tuple', 2, 2),), ()), clause_taken(pair, (('list', 1, 5),), (), ()), clause_taken(pair, (7,), (), (2,))]
+[(0, 2), (1, ()), None]
+>>> settled(1, (), (((0,), ('is', 1), False),), (0,), ('is', 2))
+'open'
+"""
+
 
 class Examples(unittest.TestCase):
     def run_text(self, text):
@@ -37,6 +48,9 @@ class Examples(unittest.TestCase):
 
     def test_section_11(self):
         self.run_text(BOXES)
+
+    def test_section_14(self):
+        self.run_text(HEADS)
 
 
 if __name__ == "__main__":
