@@ -13,8 +13,8 @@ class Doer:
     state is that of its plain steps; there tells the look that is there, None if there is none:
     ("look",) as its state asks for it, ("took", number of the letter, body, names), ("over",), ("wait", time), or
     ("end", reason). waiting is the number of the wait behind which it waits, None if there is none.
-    heard are the signals that came as long as it lived, arrivals all of them, as records tell them. tale and code are
-    kept for searches: numbers for its story and for all of it.
+    heard are the signals that came as long as it lived, arrivals all of them, as records tell them. tale, code and
+    calls are kept for searches: numbers for its story and for all of it, and what it may still call.
     """
 
     def __init__(self, path, keeps):
@@ -36,6 +36,7 @@ class Doer:
         self.trail = ()
         self.tale = (0, 0)
         self.code = None
+        self.calls = None
 
 
 def copy_of(doer):

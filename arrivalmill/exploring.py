@@ -7,30 +7,35 @@ else may be done ahead of it, no other one is tried there: it leads to the same,
 from arrivalmill.deeds import book_asked
 from arrivalmill.doers import is_open
 from arrivalmill.errors import Endless, TooMany
+from arrivalmill.foresight import ANY, Foresight
 from arrivalmill.races import is_timer_set, looks_in, telling_of
-from arrivalmill.tables import looks
 from arrivalmill.weavings import is_weaving, pairs_on_way, steps_next, worlds_along
 from arrivalmill.world import world_after, world_begun
 
 MOST_LOOKS = 60
 TICK = ("tick",)
 UNTYING = ("exit", "purge", "link", "unlink", "monitor", "demonitor", "register")
+TYING = ("tie", "untie", "watch", "unwatch", "exit")
 
 
 class Search:
-    """What a search knows: which functions that look the texts call, how many ticks may come, what was come to."""
+    """What a search knows: what may still be called, how many ticks may come, what was come to."""
 
     def __init__(self, system, ticks):
-        self.calls = _calls_in([module.forms for module in system.modules])
+        self.foresight = Foresight(system.modules)
         self.ticks = ticks
         self.numbers = {}
         self.seen = {}
 
-    def has(self, names):
-        """Whether the texts call one of these functions."""
-        for name in names:
-            if name in self.calls:
-                return True
+    def may_call(self, world, path, names):
+        """Whether any other process than this one may still call one of these functions."""
+        for other in world.doers:
+            doer = world.doers[other]
+            if other != path and not doer.ended:
+                if doer.calls is None:
+                    doer.calls = self.foresight.words_of(doer)
+                if ANY in doer.calls or [name for name in names if name in doer.calls]:
+                    return True
         return False
 
     def number_of(self, text):
@@ -38,19 +43,6 @@ class Search:
         if text not in self.numbers:
             self.numbers[text] = len(self.numbers)
         return self.numbers[text]
-
-
-def _calls_in(forms):
-    """The names of the functions that look, called in forms."""
-    found = {}
-    row = list(forms)
-    while row:
-        value = row.pop()
-        if isinstance(value, tuple):
-            if len(value) == 3 and isinstance(value[1], str) and value[0] == "built" and looks(value[1], len(value[2])):
-                found[value[1]] = True
-            row.extend(list(value))
-    return found
 
 
 def all_told(system, ticks, most):
@@ -155,22 +147,20 @@ def _can_be_first(search, world, step):
     if step[0] == "come":
         return world.doers[step[2]].ended
     doer = world.doers[step[1]]
-    if _may_be_ended(search, doer):
+    if _may_be_ended(search, world, doer):
         return False
     word = doer.there[0]
     if word == "took" or word == "over":
         return not _ends_a_wait(search, world, doer) and not is_open(doer)
     if word == "end":
-        return not search.has(UNTYING) and not _is_tied(doer)
-    if word != "look":
+        return _may_end_first(search, world, doer)
+    if word != "look" or book_asked(doer) == "names":
         return False
     word = doer.state[1]
-    if book_asked(doer) == "names":
-        return word in ("send", "watch", "who", "free") and not search.has(("register",))
     if word == "full":
-        return not search.has(("load", "delete"))
-    if word == "send":
-        return doer.state[2][0] != doer.keeps[0]
+        return not search.may_call(world, doer.path, ("load", "delete"))
+    if word == "send" or word == "exit":
+        return doer.state[2][-2] != doer.keeps[0]
     return word in ("begin", "watch")
 
 
@@ -181,11 +171,29 @@ def _is_tied(doer):
     return False
 
 
-def _may_be_ended(search, doer):
+def _has_on_way(world, path, words):
+    """Whether such a signal is on the way to a process."""
+    for pair in world.on_way:
+        if pair[1] == path and [signal for signal, _ in world.on_way[pair] if signal[0] in words]:
+            return True
+    return False
+
+
+def _may_be_ended(search, world, doer):
     """Whether something from outside may end a doer ahead of its next look."""
-    if search.has(("exit", "purge")):
+    path = doer.path
+    if search.may_call(world, path, ("exit", "purge")) or _has_on_way(world, path, ("exit",)):
         return True
-    return not doer.keeps[1] and (search.has(("link",)) or _is_tied(doer))
+    if doer.keeps[1]:
+        return False
+    return _is_tied(doer) or _has_on_way(world, path, ("tie",)) or search.may_call(world, path, ("link",))
+
+
+def _may_end_first(search, world, doer):
+    """Whether nobody else can tell whether a doer ends now, or later on."""
+    if _is_tied(doer) or [row for row in world.names if row[1] == doer.keeps[0]]:
+        return False
+    return not _has_on_way(world, doer.path, TYING) and not search.may_call(world, doer.path, UNTYING)
 
 
 def _ends_a_wait(search, world, doer):
