@@ -105,9 +105,7 @@ def _taking(doer, number):
 
 
 def is_open(doer):
-    """Whether a letter that its clauses take decides what it does next: it is at a receive that is not decided."""
-    if doer.ended or doer.state[0] != "asks" or doer.state[1] != "receive":
-        return False
+    """Whether a letter that its clauses take decides what a living doer does next: its receive is not decided."""
     if doer.there is None:
         return True
     return doer.there[0] == "wait" or (doer.there[0] == "over" and doer.waiting is None)

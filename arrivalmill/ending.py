@@ -77,8 +77,6 @@ def _is_way(web, value):
     """Whether any value is a way of the web."""
     if not isinstance(value, tuple) or not value or not _are_processes(value):
         return False
-    if value[0] not in web[0]:
-        return False
     for one, other in zip(value, value[1:]):
         if other not in _tied_with(web, one) or other in web[2]:
             return False

@@ -14,7 +14,7 @@ from arrivalmill.world import world_after, world_begun
 
 MOST_LOOKS = 60
 TICK = ("tick",)
-UNTYING = ("exit", "purge", "link", "unlink", "monitor", "demonitor", "register")
+UNTYING = ("link", "unlink", "monitor", "demonitor", "register")
 TYING = ("tie", "untie", "watch", "unwatch", "exit")
 
 
@@ -180,9 +180,9 @@ def _has_on_way(world, path, words):
 
 
 def _may_be_ended(search, world, doer):
-    """Whether something from outside may end a doer ahead of its next look."""
+    """Whether something from outside may end a doer ahead of its next look, or ask what it holds."""
     path = doer.path
-    if search.may_call(world, path, ("exit", "purge")) or _has_on_way(world, path, ("exit",)):
+    if search.may_call(world, path, ("exit", "purge", "soft_purge")) or _has_on_way(world, path, ("exit",)):
         return True
     if doer.keeps[1]:
         return False

@@ -4,6 +4,7 @@ from arrivalmill.errors import BadModules, BadStart, BadWeaving, NoProcess, Unso
 from arrivalmill.looker import is_sound
 from arrivalmill.preparing import program_of
 from arrivalmill.reading import Module
+from arrivalmill.sameness import is_same
 from arrivalmill.signs import is_atom, is_path
 from arrivalmill.terms import inner_terms, is_term
 from arrivalmill.world import can_do, world_after, world_begun
@@ -29,6 +30,7 @@ class System:
         self.modules = modules
         self.start = start
         self.texts = _texts_of(modules)
+        self.last = ((), [world_begun(self.texts, start)])
 
     def __eq__(self, other):
         return isinstance(other, System) and self.modules == other.modules and self.start == other.start
@@ -60,15 +62,28 @@ def worlds_along(system, weaving):
 
 
 def _worlds_and_wrong(system, weaving):
-    """The worlds along a weaving as far as it can be done, and the number of its first wrong step, None without one."""
-    worlds = [world_begun(system.texts, system.start)]
+    """The worlds along a weaving as far as it can be done, and the number of its first wrong step, None without one.
+
+    Who asks of one weaving most often asks next of one that begins alike: so the system keeps the last one's worlds.
+    """
     if not isinstance(weaving, tuple):
-        return worlds, -1
-    for number, step in enumerate(weaving):
-        if not can_do(worlds[-1], step):
-            return worlds, number
-        worlds.append(world_after(worlds[-1], step))
-    return worlds, None
+        return [], -1
+    known, worlds = system.last
+    number = _steps_alike(known, weaving)
+    worlds = worlds[:number + 1]
+    while number < len(weaving) and can_do(worlds[number], weaving[number]):
+        worlds.append(world_after(worlds[number], weaving[number]))
+        number += 1
+    system.last = (weaving[:number], worlds)
+    return worlds, number if number < len(weaving) else None
+
+
+def _steps_alike(one, other):
+    """How many first steps two tuples share."""
+    number = 0
+    while number < len(one) and number < len(other) and is_same(one[number], other[number]):
+        number += 1
+    return number
 
 
 def is_weaving(system, value):

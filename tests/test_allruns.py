@@ -75,6 +75,17 @@ class AllTellings(unittest.TestCase):
             rows = all_tellings(told, ticks, 300)
             self.assertEqual(told_by_all(told, ticks), {telling for telling, _ in rows})
 
+    def test_what_others_ask_of_a_process(self):
+        # Whether it holds an edition, and what is gone when it calls: nothing in its story tells so far.
+        two = ("-module(v). -export([mk/0]). mk() -> fun () -> ok end.", "-module(v).")
+        told = system("-module(m). -export([f/0, g/1]). f() -> B = spawn(m, g, [self()]), B ! v:mk(), load(v, 1), soft_purge(v), receive X -> X end. g(P) -> receive F -> X = (catch F()), P ! X end.", *two)
+        for part in (told, system("-module(m). -export([f/0, g/1]). f() -> B = spawn(m, g, [self()]), B ! v:mk(), load(v, 1), exit({purge(v), receive X -> X after 0 -> none end}). "
+                                  "g(P) -> receive F -> X = (catch F()), P ! X end.", *two),
+                     system("-module(m). -export([f/0, g/1]). f() -> spawn(m, g, [v:mk()]), load(v, 1), exit(soft_purge(v)). g(F) -> self() ! a, self() ! b, F, self() ! c.", *two)):
+            wanted = told_by_all(part, 0)
+            self.assertEqual(wanted, {telling for telling, _ in all_tellings(part, 0, 300)})
+            self.assertLess(1, len(wanted))
+
     def test_other_weavings_are_right(self):
         told = one("C = spawn(fun () -> receive X -> X end end), C ! a, self() ! b")
         telling, weaving = all_tellings(told, 0, 5)[0]
@@ -183,7 +194,7 @@ class Wishes(unittest.TestCase):
         for wish, may in ((("ends", (), "a"), True), (("ends", (), "b"), True), (("ends", (), "c"), False), (("waits", (1,)), True), (("ends", (1,), "fine"), True),
                           (("waits", ()), False), (("waits", (9,)), False), (("ends", (9,), "a"), False), (("looks", (1,), ("receive", "b")), True),
                           (("looks", (1,), ("receive", "c")), False), (("looks", (9,), ("receive", "b")), False), (("looks", (), ()), False),
-                          (("looks", (2,), ("full", "m", "h", 1, 1)), True), (("looks", (2,), ("full", "m", "h", True, 1)), False),
+                          (("looks", (2,), ("full", "m", "h", 1, 1)), True), (("ends", (1,), P), False), (("looks", (2,), ("full", "m", "h", True, 1)), False),
                           (("both", ("ends", (), "a"), ("ends", (1,), "fine")), True), (("both", ("ends", (), "b"), ("ends", (1,), "fine")), False),
                           (("both", ("ends", (), "b"), ("waits", (1,))), True), (("not", ("either", ("ends", (), "a"), ("ends", (), "b"))), False),
                           (("either", ("ends", (), "c"), ("waits", (1,))), True), (("not", ("waits", (9,))), True), (("ends", (2,), "normal"), True)):
@@ -231,7 +242,7 @@ class Wishes(unittest.TestCase):
         for _ in range(9):
             row = ("both", ENDED, row)
         self.assertEqual("weaving", can(one("1"), row, 0, 1)[0])
-        for wish in (None, (), ["ends", (), "a"], ("ends", ()), ("ends", (), "a b"), ("ends", [], "a"), ("ends", (0,), "a"), ("ends", (), "a", 1), ("ends", (), True), ("waits",),
+        for wish in (None, (), (["ends"], (), "a"), ["ends", (), "a"], ("ends", ()), ("ends", (), "a b"), ("ends", [], "a"), ("ends", (0,), "a"), ("ends", (), "a", 1), ("ends", (), True), ("waits",),
                      ("waits", (), 1), ("waits", "x"), ("looks", (), ["end"]), ("looks", (), "end"), ("looks", (), None), ("both", ENDED), ("both", ENDED, 1), ("not", ENDED, ENDED),
                      ("not", None), ("either", ENDED, ("wait", ())), ("wait", ()), (1, ()), ("not", deep), ("both", deep, ENDED), ("either", ENDED, ("not", deep)), "waits", ("not", ["waits", ()])):
             for call in (lambda: can(ORDER, wish, None, None), lambda: surely(ORDER, wish, None, None), lambda: shows_can(ORDER, wish, 0, 0, None), lambda: shows_surely(ORDER, wish, 7, 1, 1)):

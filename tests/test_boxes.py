@@ -26,7 +26,7 @@ class Boxes(unittest.TestCase):
         self.assertEqual((1, "a", ("list", 1)), box.letters)
         self.assertEqual(3, len(box))
         self.assertEqual(Box((1, "a", ("list", 1), 2)), box.with_letter(2))
-        self.assertEqual(Box((1, ("list", 1))), box.without(1))
+        self.assertEqual([Box(("a", ("list", 1))), Box((1, ("list", 1))), Box((1, "a"))], [box.without(number) for number in range(3)])
         self.assertEqual((1, "a", ("list", 1)), box.letters)
         self.assertTrue(1 in box and ("list", 1) in box)
         for value in (True, 2, [1], ("list", True), ["list", 1], None, {}, box):
@@ -182,6 +182,9 @@ class Clocks(unittest.TestCase):
         left, behind = clock.without("a")
         self.assertEqual((3, 2, ()), (left, behind.now, behind.timers))
         self.assertEqual((None, clock), clock.without("b"))
+        three = clock.with_timer("b", 1, "p", "s")[0].with_timer("c", 1, "p", "s")[0].with_timer("d", 9, "p", "s")[0]
+        self.assertEqual([1, 1, 9], [three.without(key)[0] for key in "bcd"])
+        self.assertEqual(["a", "c", "d"], [row[0] for row in three.without("b")[1].timers])
         self.assertEqual((None, behind), behind.without("a"))
         self.assertEqual(1, len(clock.timers))
 

@@ -135,7 +135,7 @@ class WhoEnds(unittest.TestCase):
                     ((Q, P), (), ()), ((P, P), (), ()), ((P, 1), (), ()), ((P, ("pid", (0,))), (), ()), ((P, Q), ((P, R),), ()),
                     ((P, Q), ((P, P),), ()), ((P, Q), ((Q, P),), ()), ((P, Q), ((P, Q), (P, Q)), ()), ((P, Q), [(P, Q)], ()),
                     ((P, Q), ([P, Q],), ()), ((P, Q), ((P, Q, R),), ()), ((P, Q, R), ((Q, R), (P, Q)), ()), ((P, Q), (), (R,)),
-                    ((P, Q), (), (Q, P)), ((P, Q), (), (P, P)), ((P, Q), (), [P]), ((P, Q), (), (1,)), ((P, ("pid", (True,))), (), ())):
+                    ((P, Q), (), (Q, P)), ((P, Q), (), (P, P)), ((P, Q), (), [P]), ((P, Q), (), (1,)), ((Q, R), ((P, Q),), ()), ((P, Q), ((P, ("pid", (True,))),), ()), ((P, ("pid", (True,))), (), ())):
             for call in (lambda: who_ends(web, None), lambda: may_end(web, ()), lambda: shows_who_ends(web, None, 1)):
                 with self.assertRaises(BadWeb) as caught:
                     call()

@@ -62,7 +62,7 @@ class Weavings(unittest.TestCase):
         next_steps(told, right)
         for at, wrong in ((0, ("go", (1,))), (0, ("come", (), (1,))), (1, ["go", ()]), (2, ("go", (1,))), (2, ("go", [])), (3, ("go",)),
                           (3, ("go", (), 1)), (4, ("come", (1,), ())), (4, ("come", "clock", (1,))), (4, ("come", (), (True,))), (4, ()),
-                          (4, ("come", (), [1])), (4, ("come", ())), (4, ("go", (True,))), (5, ("tick", 1)), (5, "tick"), (5, (1,)),
+                          (4, ("come", (), [1])), (4, ("come", [1], ())), (4, ("come", (), (1,), 1)), (4, ("come", ())), (4, ("go", (True,))), (5, ("tick", 1)), (5, "tick"), (5, (1,)),
                           (5, ("come", None, ())), (5, ("tock",)), (0, True), (2, (["go"], ()))):
             weaving = (*right[:at], wrong, *right[at + 1:])
             for call in (lambda: next_steps(told, weaving), lambda: story(told, weaving, None), lambda: standing(told, weaving),
@@ -133,6 +133,11 @@ class Looks(unittest.TestCase):
         told = one("self() ! a, self() ! b, X = (self() ! c), receive b -> 1 end, receive Y -> exit({X, Y}) end")
         self.assertEqual((("send", P, "a"), ("send", P, "b"), ("send", P, "c"), ("receive", "b"), ("receive", "a"), ("end", ("tuple", "c", "a"))), looks(told))
         self.assertEqual((("end", ("tuple", "badarg", ("list",))),), looks(one("3 ! a")))
+        told = one("self() ! a, self() ! b, self() ! c, receive b -> 1 end, receive X when X =:= self() -> 1 end")
+        self.assertEqual((((), "waits", ("a", "c")),), standing(told, led(told)))
+        told = one("spawn(m, g, [self()]), receive z -> 1 end", "g(P) -> self() ! P, self() ! self(), receive X when X =:= self() -> exit(X) end.")
+        self.assertEqual((("receive", C), ("end", C)), story(told, led(told), (1,))[-2:])
+        self.assertEqual(((1,), "ended", ()), standing(told, led(told))[1])
         told = one("spawn(fun () -> receive X -> exit(X) end end) ! {a, 1}, receive z -> 1 after 2 -> over end")
         self.assertEqual((("receive", ("tuple", "a", 1)), ("end", ("tuple", "a", 1))), story(told, led(told), (1,)))
         self.assertEqual((("wait", 2),), looks(told)[2:])
@@ -167,6 +172,9 @@ class Looks(unittest.TestCase):
         weaving = (*weaving, TICK, TICK)
         self.assertEqual((("clock", (), (("over", 1),)),), on_way(told, weaving))
         self.assertEqual((("over",), ("end", "none")), story(told, (*weaving, ("come", "clock", ()), GO, GO), ())[-2:])
+        told = one("spawn(m, g, [self()]), receive z -> 1 after 2 -> 0 end, receive x -> 1 end", "g(P) -> P ! z.")
+        weaving = (GO, GO, GO, ("go", (1,)), ("go", (1,)), ("come", (1,), ()), GO, TICK, TICK, ("come", "clock", ()))
+        self.assertEqual("waits", standing(told, weaving)[0][1])
 
     def test_children(self):
         told = one("A = spawn(m, g, [1]), F = fun () -> 2 end, {B, R} = spawn_monitor(F), C = spawn_link(fun m:h/0), make_ref(), "
@@ -211,6 +219,10 @@ class Ends(unittest.TestCase):
     def test_exits_to_oneself(self):
         for reason, told in (("a", "a"), ("normal", "normal"), ("kill", "killed")):
             self.assertEqual((("exit", P, reason), ("end", told)), looks(one("exit(self(), " + reason + "), x ! y")))
+        trapping = one("process_flag(trap_exit, true), X = exit(self(), a), exit({X, exit(self(), kill)})")
+        self.assertEqual(("end", "killed"), looks(trapping)[-1])
+        trapping = one("process_flag(trap_exit, true), X = exit(self(), a), exit(X)")
+        self.assertEqual(("end", "true"), looks(trapping)[-1])
         trapping = one("process_flag(trap_exit, true), exit(self(), normal), receive X -> exit(X) end")
         self.assertEqual((("receive", ("tuple", "EXIT", P, "normal")), ("end", ("tuple", "EXIT", P, "normal"))), looks(trapping)[2:])
         self.assertEqual((("exit", P, "kill"), ("end", "killed")), looks(one("process_flag(trap_exit, true), exit(self(), kill), 1"))[1:])
@@ -317,6 +329,8 @@ class Heard(unittest.TestCase):
         self.assertEqual((1, None, None, "undefined", 0, 1, None), answers)
         self.assertEqual((((1,), ("letter", "hi"), 10), ((1,), ("exit", "bye", True, 0), 10), ("names", ("notice", A, "noproc"), 11)), signals)
         self.assertEqual(((((), ("tie", 0), 0),), (1,)), heard(told, weaving, (1,)))
+        told = one("spawn(fun () -> 1 end), spawn_monitor(fun () -> 1 end)")
+        self.assertEqual([((), ()), ((), ())], [heard(told, led(told), path) for path in ((1,), (2,))])
 
     def test_overs_and_purges(self):
         told = one("receive z -> 1 after 1 -> over end")
@@ -444,13 +458,44 @@ class LastPlaces(unittest.TestCase):
                 ("F = v:mk(), P ! on, receive never -> 1 end, fun (F) -> F end", 0), ("F = v:mk(), P ! on, receive never -> 1 end, case P of 1 -> 2; 3 -> F end", 1),
                 ("F = v:mk(), P ! on, F = receive never -> 1 end", 1), ("F = v:mk(), P ! on, (receive never -> true end) andalso F", 1),
                 ("F = v:mk(), P ! on, receive never -> 1 end, #{a => {F}}", 1), ("F = [v:mk()], P ! on, receive never -> 1 end, [1 | F]", 1),
-                ("F = fun v:mk/0, P ! on, receive never -> 1 end, F", 0), ("P ! on, try G = v:mk(), receive never -> G end of _ -> 1 after 3 end, G = 2, G", 1),
+                ("F = fun v:mk/0, P ! on, receive never -> 1 end, F", 0), ("P ! on, receive never -> 1 after begin F = v:mk(), 5 end -> F end", 1),
+                ("P ! on, receive never -> 1 after begin F = v:mk(), 5 end -> {F} end, 2", 1), ("P ! on, receive never -> 1 after begin _ = v:mk(), 5 end -> P end", 0),
+                ("F = v:mk(), P ! on, receive never -> 1 after receive z -> 1 end -> F end", 1), ("F = v:mk(), P ! on, receive {_, F} -> 1 after receive z -> 1 end -> 2 end", 1),
+                ("F = v:mk(), P ! on, try 1 after receive never -> 1 end end, F", 1), ("F = v:mk(), P ! on, try throw(1) after receive never -> 1 end end, F", 1),
+                ("F = v:mk(), P ! on, try throw(1) after receive never -> 1 end end, P", 0), ("F = v:mk(), P ! on, try throw(1) catch _ -> receive never -> 1 end after F end", 1),
+                ("F = v:mk(), P ! on, try 1 of _ -> receive never -> 1 end catch _ -> F end", 0), ("F = v:mk(), P ! on, try receive never -> 1 end of _ -> 1 catch F -> 1 end", 1),
+                ("F = v:mk(), P ! on, [{X, F} || X <- receive never -> [1] end]", 1), ("F = v:mk(), P ! on, [X || X <- receive never -> [1] end, X == F]", 1),
+                ("F = v:mk(), P ! on, [F || F <- receive never -> [1] end]", 0), ("F = v:mk(), P ! on, [X || X <- receive never -> [1] end, F <- [X]]", 0),
+                ("F = v:mk(), P ! on, [X || X <- [1], receive never -> true end, Y <- [F], Y > 1]", 1), ("F = v:mk(), P ! on, [1 || #{F := _} <- receive never -> [1] end]", 1),
+                ("F = v:mk(), P ! on, [case X of 1 -> F; 2 -> receive never -> 1 end end || X <- [2, 1]]", 1), ("F = v:mk(), P ! on, [case X of 1 -> P; 2 -> receive never -> 1 end end || X <- [2, 1]]", 0),
+                ("F = v:mk(), P ! on, receive never -> 1 end, if F > 1 -> 1; P > 1 -> 2 end", 1), ("F = v:mk(), P ! on, receive never -> 1 end, if P > 1 -> F; true -> 2 end", 1),
+                ("F = v:mk(), P ! on, receive never -> 1 end, [F || _ <- [1]]", 1), ("F = v:mk(), P ! on, receive never -> 1 end, [1 || _ <- F]", 1), ("F = v:mk(), P ! on, receive never -> 1 end, [1 || F <- [1]]", 0),
+                ("F = v:mk(), P ! on, receive never -> 1 end, [1 || X <- [1], X > F]", 1), ("F = v:mk(), P ! on, receive never -> 1 end, try F catch _ -> 1 end", 1), ("F = v:mk(), P ! on, receive never -> 1 end, try 1 of F -> 1 catch _ -> 1 end", 1),
+                ("F = v:mk(), P ! on, receive never -> 1 end, try 1 catch _ -> F end", 1), ("F = v:mk(), P ! on, receive never -> 1 end, try 1 after hold(F) end", 1), ("F = v:mk(), P ! on, receive never -> 1 end, catch hold(F)", 1),
+                ("F = v:mk(), P ! on, receive never -> 1 end, hold(true) andalso F", 1), ("F = v:mk(), P ! on, receive never -> 1 end, hold(F) orelse true", 1), ("F = v:mk(), P ! on, receive never -> 1 end, begin 1, F end", 1),
+                ("F = v:mk(), P ! on, receive never -> 1 end, receive F -> 1 end", 1), ("F = v:mk(), P ! on, receive never -> 1 end, receive a -> 1 after hold(F) -> 1 end", 1), ("F = v:mk(), P ! on, receive never -> 1 end, receive a -> 1 after 1 -> F end", 1),
+                ("F = v:mk(), P ! on, receive never -> 1 end, P ! F", 1), ("F = v:mk(), P ! on, receive never -> 1 end, v:hold(F)", 1), ("F = v:mk(), P ! on, receive never -> 1 end, F()", 1), ("F = v:mk(), P ! on, receive never -> 1 end, P(F)", 1),
+                ("F = v:mk(), P ! on, receive never -> 1 end, X = {F}, X", 1), ("F = v:mk(), P ! on, receive never -> 1 end, #{}#{a => hold(F)}", 1), ("F = v:mk(), P ! on, receive never -> 1 end, apply(P, [F])", 1),
+                ("F = v:mk(), P ! on, receive never -> 1 end, case hold(P) of {F} -> 1 end", 1), ("F = v:mk(), P ! on, receive never -> 1 end, case F of _ -> 1 end", 1), ("F = v:mk(), P ! on, receive never -> 1 end, fun hold/1", 0),
+                ("P ! on, try X = v:mk(), X, receive never -> 1 end catch _ -> X = 2, X end", 0), ("P ! on, try X = v:mk(), X, receive never -> 1 end after X = 2, X end", 0),
+                ("P ! on, try X = v:mk(), X, receive never -> 1 end of _ -> X catch _ -> 1 end", 1), ("P ! on, [X || X <- begin Y = v:mk(), Y, receive never -> [1] end end, begin Y = 2, Y > 1 end]", 0),
+                ("P ! on, [Y || X <- [1, 2], Y <- case X of 1 -> [v:mk()]; 2 -> receive never -> [1] end end]", 1), ("P ! on, [Y || X <- [1, 2], Y <- case X of 1 -> [v:mk()]; 2 -> receive never -> [1] end end, false]", 0),
+                ("P ! on, [receive never -> 1 end || X <- [1], begin Y = v:mk(), is_function(Y) end, Y <- [2], X > Y]", 0),
+                ("F = v:mk(), P ! on, receive never -> 1 end, {{}, #{}, []}", 0), ("F = v:mk(), P ! on, receive never -> 1 end, {{}, #{1 => F}, []}", 1),
+                ("F = v:mk(), P ! on, receive never -> 1 end, <<1>>", 0), ("F = v:mk(), P ! on, receive never -> 1 end, fun F(1) -> F(2) end", 0), ("F = v:mk(), P ! on, receive never -> 1 end, not (1 > length([F]))", 1), ("P ! on, try G = v:mk(), receive never -> G end of _ -> 1 after 3 end, G = 2, G", 1),
                 ("P ! on, try G = v:mk(), G, receive never -> 1 end of _ -> 1 after 3 end, G = 2, G", 0),
                 ("self() ! v:mk(), P ! on, receive never -> 1 end", 1), ("F = v:mk(), P ! on, hold(F)", 0), ("F = v:mk(), P ! on, hold({F, 1}), F", 1)):
             text = other + "go(P) -> " + body + ". hold(X) -> X, receive never -> 1 end. hold(X, Y) -> {X, Y}. give() -> 1."
             told = system("-module(m). -export([f/0]). f() -> spawn(u, go, [self()]), receive on -> 1 end, load(v, 1), purge(v).",
                           "-module(v). -export([mk/0]). mk() -> fun () -> 1 end.", "-module(v).", text)
             self.assertEqual(("purge", "v", wanted), looks(told)[-2], body)
+
+    def test_arguments_of_a_call_that_is_there(self):
+        told = system("-module(m). -export([f/0]). f() -> spawn(u, go, []), load(v, 1), purge(v).", "-module(v). -export([mk/0]). mk() -> fun () -> 1 end.", "-module(v).",
+                      "-module(u). -export([go/0, take/1]). go() -> u:take(v:mk()). take(_) -> receive never -> 1 end.")
+        for many, wanted in ((2, 1), (3, 0)):
+            weaving = (GO, GO, *((("go", (1,)),) * many), GO, GO)
+            self.assertEqual(("purge", "v", wanted), story(told, weaving, ())[-1])
 
     def test_own_functions_that_are_made(self):
         for body, wanted in (("fun mk/0", 1), ("fun v:mk/0", 0), ("{1, [fun mk/0]}", 1), ("#{fun mk/0 => 1}", 1), ("fun (X) -> X end", 1)):
