@@ -46,7 +46,20 @@ class Search:
 
 
 def all_told(system, ticks, most):
-    """All unlike tellings of whole weavings, each with a weaving: a list of (telling, weaving)."""
+    """All unlike tellings of whole weavings, each with a weaving: a list of (telling, weaving).
+
+    Who asks this of a system most often asks more of the same: so it keeps what was found last.
+    """
+    known, rows = system.told
+    if known != ticks:
+        rows = _search(system, ticks, most)
+        system.told = (ticks, rows)
+    if len(rows) > most:
+        raise TooMany(most)
+    return rows
+
+
+def _search(system, ticks, most):
     search = Search(system, ticks)
     tellings = {}
     row = [(world_begun(system.texts, system.start), None)]

@@ -27,6 +27,7 @@ class Heads:
         self.width = len(self.rows[0])
         self.guards = tuple([len(clause[1]) > 0 for clause in clauses])
         self.binds = tuple([_bound_by(patterns, known) for patterns in self.rows])
+        self.right = None
 
     def __eq__(self, other):
         if not isinstance(other, Heads):

@@ -19,7 +19,9 @@ def tree(heads):
 
 
 def shows_tree(heads, value):
-    """Whether any value is a right tree of these heads."""
+    """Whether any value is a right tree of these heads, which keep the last one that was."""
+    if heads.right is not None and is_same(heads.right, value):
+        return True
     row = [(value, (), ())]
     while row:
         part, answers, passed = row.pop()
@@ -32,6 +34,7 @@ def shows_tree(heads, value):
         if behind is None:
             return False
         row.extend(behind)
+    heads.right = value
     return True
 
 

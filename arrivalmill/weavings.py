@@ -31,6 +31,7 @@ class System:
         self.start = start
         self.texts = _texts_of(modules)
         self.last = ((), [world_begun(self.texts, start)])
+        self.told = (None, [])
 
     def __eq__(self, other):
         return isinstance(other, System) and self.modules == other.modules and self.start == other.start
