@@ -58,7 +58,7 @@ class Foresight:
         """The functions that a call may mean: its size is None where the text does not tell it."""
         if callee[-1] is not None:
             return [callee] if callee in self.words else []
-        return [key for key in self.words if key[:2] == callee[:2] and len(key) == 3]
+        return [key for key in self.words if key[:2] == callee[:2]]
 
     def words_of(self, doer):
         """The looking functions that a doer may still call, and those whom it may begin."""

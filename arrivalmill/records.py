@@ -102,11 +102,7 @@ def shows_led_over(system, one, other, value):
         ahead, behind = steps[place], steps[place + 1]
         if one[ahead] != one[behind]:
             # Steps that do not hang on one another lead to the same, in whichever sequence they are done.
-            if _hang(marks, ahead, behind):
+            if hangs_at_once(marks, ahead, behind):
                 return False
             steps[place], steps[place + 1] = behind, ahead
     return tuple([one[number] for number in steps]) == other
-
-
-def _hang(marks, one, other):
-    return hangs_at_once(marks, one, other) or one in marks[other][2] or other in marks[one][2]

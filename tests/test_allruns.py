@@ -128,6 +128,23 @@ class AllTellings(unittest.TestCase):
         self.assertFalse(shows_all_tellings(told, 3, 5, ((rows[0][0], (*weaving, TICK)),)))
         self.assertFalse(shows_all_tellings(told, 3, 5, ((rows[0][0], (TICK, *weaving)),)))
 
+    def test_a_wait_that_goes_on_lets_ticks_come(self):
+        told = one("send_after(1, self(), a), receive a -> exit(done) after 3 -> late end")
+        begin = (GO, GO, GO)
+        rows = all_tellings(told, 1, 5)
+        waits = [row for row in rows if ("wait", 3) in row[0][0][1]]
+        self.assertEqual((2, 1), (len(rows), len(waits)))
+        rest = [row for row in rows if row not in waits]
+        come = ("come", "clock", ())
+        for ticks, right in ((1, True), (2, False)):
+            other = (*begin, *((TICK,) * ticks), come, GO, GO)
+            self.assertEqual(right, shows_all_tellings(told, 1, 5, (*rest, (waits[0][0], other))))
+            self.assertEqual(right, shows_can(told, ("looks", (), ("wait", 3)), 1, 5, ("weaving", other)))
+        set_one = one("send_after(3, self(), x)")
+        (telling, weaving), = all_tellings(set_one, 3, 5)
+        self.assertTrue(shows_all_tellings(set_one, 3, 5, ((telling, weaving),)))
+        self.assertFalse(shows_all_tellings(set_one, 3, 5, ((telling, begin),)))
+
     def test_too_many(self):
         for most in range(1, 8):
             if most < 6:
@@ -271,7 +288,7 @@ class Wishes(unittest.TestCase):
             self.assertEqual(("end", "b"), story(more, told[2], ())[-1])
             self.assertTrue(shows_alike(*pair, (), 0, 300, told))
             for value in (("parts", 1 - number, told[2]), ("alike", 1), ("parts", number, told[2][:-1]), list(told), ("parts", bool(number), told[2]), ("parts", number), None,
-                          ("parts", number, [w for t, w in all_tellings(more, 0, 9) if t[0][1][-1] == ("end", "a")][0]), ("parts", number, None), ("parts", 2, told[2])):
+                          ("parts", number, [w for t, w in all_tellings(more, 0, 9) if t[0][1][-1] == ("end", "a")][0]), ("parts", number, None), ("parts", 2, told[2]), ("alike", number, told[2]), (*told, 1)):
                 self.assertFalse(shows_alike(*pair, (), 0, 300, value), value)
         self.assertEqual(("alike", 1), alike(more, less, (1,), 0, 300))
         self.assertTrue(shows_alike(more, less, (1,), 0, 300, ("alike", 1)))

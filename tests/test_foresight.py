@@ -32,6 +32,11 @@ class Words(unittest.TestCase):
         self.assertEqual(set(), found[("m", "l", 0)])
         self.assertEqual([{"exit"}, {"purge"}, {"purge"}], [found[("m", number)] for number in range(3)])
 
+    def test_numbers_and_long_rows(self):
+        found = self.words("-module(m). a() -> b(). b() -> c(), fun Own(X) -> Own(X) end. c() -> d(). d() -> e(). e() -> fun () -> link(self()) end. z() -> fun (_) -> fun () -> 1 end end, purge(m).")
+        self.assertEqual([{"link"}] * 3, [found[("m", name, 0)] - {ANY} for name in ("a", "c", "e")])
+        self.assertEqual([{"link", ANY}, {"link"}, {"purge"}, {"purge"}], [found[("m", number)] for number in range(4)])
+
     def test_other_modules(self):
         texts = ("-module(m). f() -> n:g(1). g() -> n:no(). h(X) -> X:g(1). k(X) -> n:X(). l() -> fun n:g/1. p(X) -> apply(n, g, X). q(F) -> F(). r() -> spawn(n, g, [1]). s(X) -> spawn(n, g, X). "
                  "t(X) -> spawn_link(X, g, []). u(X) -> spawn(X). v() -> spawn(fun () -> unlink(self()) end). w() -> spawn_monitor(fun n:g/1). x() -> (fun (Y) -> Y end)(1). y() -> spawn(n, g, [1, 2]).",
@@ -99,6 +104,19 @@ class Tried(unittest.TestCase):
         self.assertEqual([go], self.tried(told, (go, go)))
         self.assertEqual([child], self.tried(told, (go, go, go)))
         self.assertEqual([child, ("come", (), (1,))], self.tried(told, (go, go, go, child)))
+        # Nor is who ends while another one may tell whether that was so: by a tie, a name, a watch that is on the way.
+        told = one("C = spawn_link(m, g, [self()]), process_flag(trap_exit, true), receive z -> 1 end", "g(P) -> receive z -> P after 0 -> 2 end.")
+        self.assertEqual([child, ("come", (), (1,))][:1], self.tried(told, (go, go, go, child, child))[:1])
+        told = one("spawn(m, g, [self()]), spawn(m, h, []), 1", "g(P) -> register(a, self()), P. h() -> whereis(a).")
+        ends = (go, go, go, go, child, child, ("go", (2,)))
+        self.assertEqual([child, ("go", (2,))], self.tried(told, ends))
+        told = one("C = spawn(m, g, []), monitor(process, C)", "g() -> 1.")
+        self.assertEqual([child, ("come", (), (1,))], self.tried(told, (go, go, go, go, child)))
+        told = one("C = spawn_link(m, g, []), D = spawn_link(m, g, []), C, D, receive z -> 1 end", "g() -> 1.")
+        self.assertEqual([child, ("go", (2,))], self.tried(told, (go, go, go, child, ("go", (2,)))))
+        # A letter to oneself stands in the box ahead of those that come later, or behind them.
+        told = one("spawn(m, g, [self()]), self() ! a, receive X -> X end", "g(P) -> P ! b.")
+        self.assertEqual([go, ("come", (1,), ())], self.tried(told, (go, go, child, child, child)))
         self.assertEqual(2, len(system("-module(m).", "-module(n).").modules))
 
 

@@ -251,6 +251,13 @@ class Races(unittest.TestCase):
         self.assertEqual(6, len(turned))
         self.assertEqual((("code", ("exit", "kill", False, 0), 1),), heard(told, turned, (1,))[0])
 
+    def test_two_that_end_by_what_comes(self):
+        told = one("C = spawn(m, g, [self()]), exit(C, kill), receive z -> 1 end", "g(P) -> exit(P, kill), receive z -> 1 end.")
+        weaving = (GO, GO, GO, CHILD, CHILD, ("come", (1,), ()), ("come", (), (1,)))
+        self.assertEqual([("books", 5, 6)], [race for race in races(told, weaving) if race[1] == 5])
+        self.assertEqual((*weaving[:5], weaving[6], weaving[5]), turned_at(told, weaving, ("books", 5, 6)))
+        self.assertEqual("same", race_parts(told, weaving, ("books", 5, 6))[0])
+
     def test_no_race(self):
         told = one("S = self(), spawn(fun () -> S ! a end), spawn(fun () -> S ! b end), receive X -> exit(X) end")
         weaving = led(told)

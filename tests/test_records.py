@@ -94,6 +94,7 @@ class SameRun(unittest.TestCase):
         self.assertEqual(("same",), told(START + ONE + (TICK,), START + (TICK,) + ONE))
         self.assertEqual(("begun", (2,)), told(START[:2] + ONE + ONE, START[:3]))
         self.assertEqual(("begun", (1,)), told((), START))
+        self.assertEqual(("begun", (1,)), told(START, ()))
         both = START + ONE * 2 + OTHER * 2
         self.assertEqual(("arrivals", (), 0), told((*both, ("come", (1,), ())), (*both, ("come", (2,), ()))))
         self.assertEqual(("arrivals", (), 1), told((*both, ("come", (1,), ()), ("come", (2,), ())), (*both, ("come", (1,), ()))))
@@ -166,6 +167,8 @@ class LedOver(unittest.TestCase):
             self.assertFalse(shows_led_over(TWO, one_weaving, other, value), value)
         for value in ((4,), (4, 4, 4)):
             self.assertTrue(shows_led_over(TWO, one_weaving, other, value))
+        self.assertFalse(shows_led_over(TWO, (TICK, GO), (GO, TICK), (-1,)))
+        self.assertTrue(shows_led_over(TWO, (TICK, GO), (GO, TICK), (0,)))
         # Exchanging two equal steps leads to the same weaving.
         self.assertTrue(shows_led_over(TWO, START, START, (1, 1, 2)))
         self.assertFalse(shows_led_over(TWO, START, START, (3,)))
