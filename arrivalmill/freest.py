@@ -19,7 +19,6 @@ class Unifier:
         self.shapes = []
         self.consts = {}
         self.waiting = []
-        self.clashes = False
 
     def node(self, shape):
         """A new node."""
@@ -50,23 +49,20 @@ class Unifier:
                 self.shapes[left] = self.united(self.shapes[left], self.shapes[right])
 
     def united(self, one, other):
-        """The shape of nodes that were made the same."""
-        if one is None or other is None:
-            return other if one is None else one
-        if one[0] != other[0] or (one[0] != "map" and len(one[1:]) != len(other[1:])):
-            self.clashes = True
-        elif one[0] == "map":
+        """The shape of nodes that were made the same; where there is none, what they stand for answers otherwise."""
+        if one is None:
+            return other
+        if other is None or one[0] != other[0] or one[0] == "const":
+            return one
+        if one[0] == "map":
             return (*one, *other[1:])
-        elif one[0] == "const":
-            self.clashes = self.clashes or one != other
-        else:
-            self.waiting.extend(list(zip(one[1:], other[1:])))
+        self.waiting.extend(list(zip(one[1:], other[1:])))
         return one
 
     def close(self):
         """Unites what has to be the same: values at equal keys, and what has all parts in common."""
         pairs = self.pairs_to_unite()
-        while pairs and not self.clashes:
+        while pairs:
             for one, other in pairs:
                 self.unite(one, other)
             pairs = self.pairs_to_unite()
@@ -208,7 +204,7 @@ def freest(width, known, answers, mentioned):
             puzzle.note(place, question)
     unifier = puzzle.unifier
     unifier.close()
-    if unifier.clashes or not unifier.is_finite():
+    if not unifier.is_finite():
         return None
     builder = Builder(unifier, mentioned)
     held = {name: builder.term(puzzle.names[name]) for name in known}

@@ -41,8 +41,8 @@ class World:
 def copy_of_world(world):
     """A world alike, by itself."""
     other = World(world.shelf)
-    other.doers = dict(world.doers)
-    other.on_way = dict(world.on_way)
+    other.doers = {path: world.doers[path] for path in world.doers}
+    other.on_way = {pair: world.on_way[pair] for pair in world.on_way}
     other.clock = world.clock
     other.names = world.names
     other.asked = dict(world.asked)

@@ -99,6 +99,8 @@ class Answering(unittest.TestCase):
         self.assertEqual("subjects", answering(1, (), tuple(many))[0])
         self.settled("open", many, (0,), ("is", 25))
         self.settled("no", many, (0,), ("is", 3))
+        for known in ((), ("K",)):
+            self.assertEqual("subjects", answering(2, known, tuple(((0,), ("is", "a" + str(number)), False) for number in range(9)))[0])
         self.settled("open", [((0,), ("is", "a1"), False), ((0,), ("same", (1,)), False)], (1,), ("is", "a1"))
 
     def test_no_term_is_in_itself(self):
@@ -126,6 +128,11 @@ class Answering(unittest.TestCase):
         self.settled("yes", [*keys, ((0, 0, 0), ("same", (0, 1, 0)), True)], (1, ("keyed", "K")), ("same", (1, ("keyed", "L"))))
         self.settled("yes", [*keys, ((0, 0, 0), ("is", 5), True), ((0, 1, 0), ("is", 5), True)], (1, ("keyed", "K")), ("same", (1, ("keyed", "L"))))
 
+        values = [*keys, ((0, 0, 0), ("same", (0, 1, 0)), True), ((2,), ("tuple", 2), True), ((1, ("keyed", "K")), ("same", (2, 0)), True), ((1, ("keyed", "L")), ("same", (2, 1)), True)]
+        self.settled("yes", values, (2, 0), ("same", (2, 1)), 3)
+        self.assertEqual("subjects", answering(3, ("K", "L"), tuple(values))[0])
+        self.assertEqual(("never",), answering(3, ("K", "L"), (*values, ((2, 0), ("is", 1), True), ((2, 1), ("is", 2), True))))
+
     def test_maps_with_the_same_told_keys_may_be_unlike(self):
         rows = [((0,), ("has", 1), True), ((1,), ("has", 1), True), ((0, ("key", 1)), ("same", (1, ("key", 1))), True)]
         self.settled("open", rows, (0,), ("same", (1,)))
@@ -151,7 +158,7 @@ class Answering(unittest.TestCase):
     def test_shown_values(self):
         rows = (((0,), ("tuple", 1), True), ((0, 0), ("is", 1), False))
         self.assertTrue(shows_answering(1, ("K",), rows, ("subjects", (("tuple", 2),), (("K", 1),))))
-        for value in (None, ("never",), ("subjects", (("tuple", 1),), (("K", 1),)), ["subjects", (("tuple", 2),), (("K", 1),)], ("subjects", [("tuple", 2)], (("K", 1),)), ("subjects", (("tuple", True),), (("K", 1),)),
+        for value in (None, ("never",), ("subject", (("tuple", 2),), (("K", 1),)), ("subjects", (("tuple", 1),), (("K", 1),)), ["subjects", (("tuple", 2),), (("K", 1),)], ("subjects", [("tuple", 2)], (("K", 1),)), ("subjects", (("tuple", True),), (("K", 1),)),
                       ("subjects", (("tuple", 2),), ()), ("subjects", (("tuple", 2),)), ("subjects", (("tuple", 2), 1), (("K", 1),)), ("subjects", (5,), (("K", 1),)), ("subjects", (("tuple",),), (("K", 1),)),
                       ("subjects", (("tuple", 2),), (("L", 1),)), ("subjects", (("tuple", 2),), (("K", True),)), ("subjects", None, None)):
             self.assertFalse(shows_answering(1, ("K",), rows, value), value)
@@ -190,7 +197,7 @@ class Answering(unittest.TestCase):
                     ((0, 0, ("key", "a"), "second"), q, True), ((0,), None, True), ((0,), ["map"], True), ((0,), (), True), ((0,), ("map", 1), True), ((0,), ("cons", 1), True), ((0,), ("is",), True), ((0,), ("is", True), True),
                     ((0,), ("is", ("tuple",)), True), ((0,), ("is", ("list", 1)), True), ((0,), ("is", ("map",)), True), ((0,), ("is", "a b"), True), ((0,), ("is", ("pid", ())), True), ((0,), ("tuple", 101), True),
                     ((0,), ("tuple", -1), True), ((0,), ("tuple", True), True), ((0,), ("has", ("list",)), True), ((0,), ("has", True), True), ((0,), ("has", ("bytes", 1)), True), ((0,), ("keyed", "L"), True), ((0,), ("keyed", 1), True),
-                    ((0,), ("same", (0, 2)), True), ((0,), ("same", (1,)), True), ((0,), ("same", [0]), True), ((0,), ("same", 0), True), ((0,), ("held", "L"), True), ((0,), ("held",), True), ((0,), ("other",), True), ((0,), (1,), True),
+                    ((0,), ("same", (0, 2)), True), ((0,), ("same", (1,)), True), ((0,), ("same", [0]), True), ((0,), ("same", 0), True), ((0,), ("held", "L"), True), ((0,), ("held",), True), ((0,), ("other",), True), ((0,), ("other", "K"), True), ((0,), (1,), True), ((0,), (["map"],), True),
                     ((0,), ("is", 1, 2), True), (("0",), q, True), (0, q, True), ((0, None), q, True)):
             with self.assertRaises(BadAnswers, msg=row) as caught:
                 answering(1, ("K",), (*good, row, None))

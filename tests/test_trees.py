@@ -93,7 +93,7 @@ class Trees(unittest.TestCase):
         if part[0] == "fits":
             _, number, names, rest = part
             yield from (("none",), ("fits", number + 1, names, rest) if number + 1 >= len(one) else None, ("fits", -1, names, rest), ("fits", bool(number), names, rest) if number < 2 else None,
-                        ("fits", None, names, rest), ("fits", number, list(names), rest), ("fits", number, (*names, ("Z", (0,))), rest), ("fits", number, names[:-1], rest) if names else None)
+                        ("fits", None, names, rest), ("fits", number, list(names), rest), ("fits", number, tuple(list(pair) for pair in names), rest) if names else None, ("fits", number, (*names, ("Z", (0,))), rest), ("fits", number, names[:-1], rest) if names else None)
             if one.guards[number]:
                 yield from (("fits", number, names, None), ("fits", number, names, part))
             else:
@@ -130,6 +130,12 @@ class Trees(unittest.TestCase):
         # A key may be told by another name of it.
         two = heads((ONE, ("map", ((("number", 1), Y),))), (("name", "K"), ("map", ((("name", "K"), X),))), known=("K",))
         self.assertTrue(shows_tree(two, tree(two)))
+        key, other_key = (("map", ((ONE, ("atom", "a")),)), ("map", ((ONE, X),))), (("map", ((("name", "K"), ("atom", "a")),)), ("map", ((("name", "K"), X),)))
+        for first, last in ((key, other_key), (other_key, key)):
+            one = heads((ONE if first is key else ("name", "K"), first[0]), (ONE if last is key else ("name", "K"), last[1]), known=("K",))
+            told = tree(one)
+            self.assertTrue(shows_tree(one, told))
+            self.assertEqual(1, goes(one, told, (1, ("map", (1, 5))), (("K", 1),), ())[0])
         same = heads((X, X, ("tuple", (ONE,))), (X, X, ANY), (("tuple", (Y,)), ANY, ANY))
         self.assertTrue(shows_tree(same, tree(same)))
 
