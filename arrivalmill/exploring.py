@@ -9,6 +9,9 @@ from arrivalmill.doers import is_open
 from arrivalmill.errors import Endless, TooMany
 from arrivalmill.foresight import ANY, Foresight
 from arrivalmill.races import is_timer_set, looks_in, telling_of
+from arrivalmill.shapes import is_kind
+from arrivalmill.takers import may_fit, taking_patterns
+from arrivalmill.terms import inner_terms
 from arrivalmill.weavings import is_weaving, pairs_on_way, steps_next, worlds_along
 from arrivalmill.world import world_after, world_begun
 
@@ -23,9 +26,11 @@ class Search:
 
     def __init__(self, system, ticks):
         self.foresight = Foresight(system.modules)
+        self.receives = taking_patterns(system.modules)
         self.ticks = ticks
         self.numbers = {}
         self.seen = {}
+        self.takes = {}
 
     def may_call(self, world, path, names):
         """Whether any other process than this one may still call one of these functions."""
@@ -37,6 +42,15 @@ class Search:
                 if ANY in doer.calls or [name for name in names if name in doer.calls]:
                     return True
         return False
+
+    def may_matter(self, letter):
+        """Whether some receive may take a letter, or somebody may ask who holds what stands in it."""
+        text = repr(letter)
+        if text not in self.takes:
+            is_taken = [pattern for pattern in self.receives if may_fit(pattern, letter)]
+            held = [term for term in inner_terms(letter) if is_kind(term, "fun")]
+            self.takes[text] = len(is_taken) + len(held) > 0
+        return self.takes[text]
 
     def number_of(self, text):
         """A number for each unlike text."""
@@ -137,9 +151,10 @@ def _tale_of(search, doer):
 
 def _doer_number(search, doer):
     if doer.code is None:
-        there = None if doer.there is None else doer.there[:2]
+        there = None if doer.there is None else doer.there[0]
         tale = _tale_of(search, doer)
-        kept = (doer.path, tale, doer.box, doer.keeps[1:], doer.ended, doer.waiting, doer.trail)
+        box = [letter for letter in doer.box if search.may_matter(letter)]
+        kept = (doer.path, tale, box, doer.keeps[1:], doer.ended, doer.waiting, doer.trail)
         doer.code = search.number_of(repr((kept, there)))
     return doer.code
 
@@ -158,7 +173,8 @@ def steps_to_try(search, world):
 def _can_be_first(search, world, step):
     """Whether a step leads to the same whatever is done ahead of it, and nothing that is done prevents it."""
     if step[0] == "come":
-        return world.doers[step[2]].ended
+        signal = world.on_way[step[1:]][0][0]
+        return world.doers[step[2]].ended or (signal[0] == "letter" and not search.may_matter(signal[1]))
     doer = world.doers[step[1]]
     if _may_be_ended(search, world, doer):
         return False
@@ -173,7 +189,8 @@ def _can_be_first(search, world, step):
     if word == "full":
         return not search.may_call(world, doer.path, ("load", "delete"))
     if word == "send" or word == "exit":
-        return doer.state[2][-2] != doer.keeps[0]
+        to, term = doer.state[2][-2:]
+        return to != doer.keeps[0] or (word == "send" and not search.may_matter(term))
     return word in ("begin", "watch")
 
 

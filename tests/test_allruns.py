@@ -21,7 +21,9 @@ KILLED = one("C = spawn(m, g, [self()]), monitor(process, C), exit(C, kill), rec
 NAMED = one("S = self(), [spawn(m, g, [S]) || _ <- [1, 2]], receive A -> A end, receive B -> B end", "g(S) -> R = (catch register(srv, self())), S ! R, receive z -> 1 after 1 -> 1 end.")
 TIED = one("process_flag(trap_exit, true), C = spawn_link(m, g, []), C ! {self(), 1}, receive {C, X} -> X end, C ! stop, receive {'EXIT', _, R} -> R after 2 -> quiet end",
            "g() -> receive {F, N} -> F ! {self(), N + 1}, g(); stop -> exit(done) end.")
-SMALL = {"order": ORDER, "timed": TIMED, "killed": KILLED, "named": NAMED, "tied": TIED}
+UNREAD = one("S = self(), [spawn_monitor(m, g, [S, N]) || N <- [1, 2]], send_after(1, S, never), l(2)",
+             "l(0) -> ok; l(N) -> receive {'DOWN', R, _, _, _} -> demonitor(R, [flush]), self() ! {unread}, l(N - 1) end. g(S, N) -> S ! N, S ! {N, N}.")
+SMALL = {"unread": UNREAD, "order": ORDER, "timed": TIMED, "killed": KILLED, "named": NAMED, "tied": TIED}
 
 
 def is_timer_set(world):

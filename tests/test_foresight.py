@@ -6,9 +6,11 @@ import unittest
 from arrivalmill.exploring import Search, steps_to_try
 from arrivalmill.foresight import ANY, Foresight
 from arrivalmill.reading import Module
+from arrivalmill.takers import may_fit, taking_patterns
 from arrivalmill.weavings import steps_next
 from arrivalmill.world import world_after, world_begun
 from tests.systems import ALL, TICK, one, system
+from tests import shaping
 from tests.test_allruns import drawn
 
 CALLS = {
@@ -66,6 +68,34 @@ class Words(unittest.TestCase):
                 world = world_after(world, rng.choice(steps[:-1] if len(steps) > 1 and rng.random() < 0.9 else steps))
 
 
+class Letters(unittest.TestCase):
+    def test_all_receives_are_seen(self):
+        told = taking_patterns([Module("-module(m). f(A) -> receive B -> B; {c, 1} when A > 1 -> fun () -> receive d -> [receive e -> 1 after receive g -> 1 end -> 2 end] end end end."), Module("-module(n). receive_it(a, b) -> 1.")])
+        self.assertEqual({("name", "B"), ("tuple", (("atom", "c"), ("number", 1))), ("atom", "d"), ("atom", "e"), ("atom", "g")}, set(told))
+
+    def test_what_fits_may_fit(self):
+        rng = random.Random(6)
+        fitted = refused = 0
+        for _ in range(3000):
+            pattern = shaping.pattern(rng, 2, ("X", "Y", "K"), ("K",))
+            term = shaping.alike(rng, pattern, {}) if rng.random() < 0.7 else shaping.term(rng, 2)
+            held = {"K": rng.choice((1, "a", ("list",)))}
+            if shaping.fits(pattern, term, {}, held):
+                self.assertTrue(may_fit(pattern, term))
+                fitted += 1
+            refused += not may_fit(pattern, term)
+        self.assertTrue(fitted > 300 and refused > 300)
+
+    def test_small_ones(self):
+        x, one_number = ("name", "X"), ("number", 1)
+        for pattern, term, wanted in ((x, 5, True), (("any",), 5, True), (one_number, 1, True), (one_number, 2, False), (("atom", "a"), "b", False), (("nil",), ("list",), True), (("nil",), ("list", 1), False),
+                                      (("bytes", (1,)), ("bytes", 1), True), (("bytes", (1,)), ("bytes",), False), (("tuple", (x, x)), ("tuple", 1, 2), True), (("tuple", (x,)), ("tuple", 1, 2), False), (("tuple", (one_number,)), ("tuple", 2), False),
+                                      (("tuple", ()), ("list",), False), (("cons", one_number, x), ("list", 1), True), (("cons", one_number, x), ("list", 2), False), (("cons", x, x), ("list",), False), (("cons", x, ("nil",)), ("list", 1, 2), False),
+                                      (("map", ()), ("map", (1, 2)), True), (("map", ()), ("list",), False), (("map", ((one_number, one_number),)), ("map", (1, 2)), False), (("map", ((one_number, x),)), ("map", (2, 2)), False),
+                                      (("map", ((x, one_number),)), ("map",), True), (("alias", x, one_number), 1, True), (("alias", one_number, ("atom", "a")), 1, False)):
+            self.assertEqual(wanted, may_fit(pattern, term), (pattern, term))
+
+
 class Tried(unittest.TestCase):
     """Which steps a search tries: just one, where it may be done first, whatever else comes."""
 
@@ -117,6 +147,13 @@ class Tried(unittest.TestCase):
         # A letter to oneself stands in the box ahead of those that come later, or behind them.
         told = one("spawn(m, g, [self()]), self() ! a, receive X -> X end", "g(P) -> P ! b.")
         self.assertEqual([go, ("come", (1,), ())], self.tried(told, (go, go, child, child, child)))
+        # Letters that no receive may take come at once; those with functions may be what somebody asks for.
+        told = one("spawn(m, g, [self()]), receive a -> 1 after 1 -> self() ! z, 1 end", "g(P) -> P ! b, P ! {a}, P ! [fun g/1], P ! a.")
+        begin, come = (go, go, go, *((child,) * 6)), ("come", (1,), ())
+        self.assertEqual([come], self.tried(told, begin))
+        self.assertEqual([come], self.tried(told, (*begin, come)))
+        self.assertEqual([come, TICK], self.tried(told, (*begin, come, come)))
+        self.assertEqual([go], self.tried(told, (*begin, come, TICK, ("come", "clock", ()), go)))
         self.assertEqual(2, len(system("-module(m).", "-module(n).").modules))
 
 
