@@ -191,6 +191,11 @@ def _can_be_first(search, world, step):
     if word == "send" or word == "exit":
         to, term = doer.state[2][-2:]
         return to != doer.keeps[0] or (word == "send" and not search.may_matter(term))
+    if word == "trap":
+        return not _may_be_tied(search, world, doer)
+    if word == "unwatch":
+        # With a flush it is as if a notice had not come; without one its letter stays.
+        return len(doer.state[2]) == 3
     return word in ("begin", "watch")
 
 
@@ -214,9 +219,12 @@ def _may_be_ended(search, world, doer):
     path = doer.path
     if search.may_call(world, path, ("exit", "purge", "soft_purge")) or _has_on_way(world, path, ("exit",)):
         return True
-    if doer.keeps[1]:
-        return False
-    return _is_tied(doer) or _has_on_way(world, path, ("tie",)) or search.may_call(world, path, ("link",))
+    return not doer.keeps[1] and _may_be_tied(search, world, doer)
+
+
+def _may_be_tied(search, world, doer):
+    """Whether a doer is tied, or others may tie themselves to it."""
+    return _is_tied(doer) or _has_on_way(world, doer.path, ("tie",)) or search.may_call(world, doer.path, ("link",))
 
 
 def _may_end_first(search, world, doer):
