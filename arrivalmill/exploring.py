@@ -193,9 +193,6 @@ def _can_be_first(search, world, step):
         return to != doer.keeps[0] or (word == "send" and not search.may_matter(term))
     if word == "trap":
         return not _may_be_tied(search, world, doer)
-    if word == "unwatch":
-        # With a flush it is as if a notice had not come; without one its letter stays.
-        return len(doer.state[2]) == 3
     return word in ("begin", "watch")
 
 
