@@ -96,17 +96,23 @@ class Unifier:
     def is_finite(self):
         """Whether no node is a part of itself."""
         tops = [node for node in range(len(self.above)) if self.above[node] is None]
-        wholes = {node: self.parts_of(node) for node in tops}
-        done = {}
-        left = tops
-        while left:
-            leaves = [node for node in left if all([part in done for part in wholes[node]])]
-            if not leaves:
-                return False
-            for node in leaves:
-                done[node] = True
-            left = [node for node in left if node not in done]
-        return True
+        wholes = {node: [] for node in tops}
+        open_parts = {}
+        for node in tops:
+            parts = self.parts_of(node)
+            open_parts[node] = len(parts)
+            for part in parts:
+                wholes[part].append(node)
+        done = [node for node in tops if open_parts[node] == 0]
+        at = 0
+        while at < len(done):
+            node = done[at]
+            for whole in wholes[node]:
+                open_parts[whole] -= 1
+                if open_parts[whole] == 0:
+                    done.append(whole)
+            at += 1
+        return len(done) == len(tops)
 
 
 class Puzzle:
