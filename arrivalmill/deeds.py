@@ -17,10 +17,8 @@ BOOKS = {
 
 
 def book_asked(doer):
-    """The word of the book that the look which is there asks; None if it asks none."""
+    """The word of the book that the look which is there, but an end, asks; None if it asks none."""
     word = doer.there[0]
-    if word == "end":
-        return "names"
     if word == "wait":
         return "clock"
     if word != "look":

@@ -120,7 +120,7 @@ class Alone(unittest.TestCase):
                     ((), ("letter", 1), -1), ((), ("letter", 1), True), ((), ("letter", 1), None), ((), ("over", 0), 0), ((), ("other", 0), 0),
                     ((), ("exit", "a", False, 1), 0), ("clock", ("untie",), 0), ("clock", ("over", -1), 0), ("clock", ("over", True), 0), ("clock", ("over",), 0),
                     ("clock", ("letter", None), 0), ("clock", (), 0), ("clock", 1, 0), ("names", ("letter", 1), 0), ("names", ("notice", 1, 1), 0),
-                    ("code", ("exit", "kill", True, 0), 0), ("code", ("exit", "kill", False, False), 0), ("code", ("letter", 1), 0), ("other", ("letter", 1), 0),
+                    ("code", ("exit", "kill", True, 0), 0), ("code", ("exit", "kill", False, False), 0), ("code", ("letter", 1), 0), ("other", ("letter", 1), 0), ("other", ("exit", "kill", False, 0), 0), ("names", ("exit", "kill", False, 0), 0),
                     (None, ("letter", 1), 0), (("a",), ("letter", 1), 0), (True, ("letter", 1), 0)):
             self.wrong_signal(1, (good, row), "X", None)
         self.wrong_signal(2, (good, ((), ("letter", 1), 1), good), "X", None)
@@ -154,6 +154,7 @@ class Alone(unittest.TestCase):
                 with self.assertRaises(BadAnswers) as caught:
                     run(call, (), (1, value, None))
                 self.assertEqual(1, caught.exception.value, (call, value))
+        self.assertEqual(("ended", "normal"), run("catch n:g(), catch m:no()", (), (1, 0, 0))[1])
         for value in (2, True, None):
             with self.assertRaises(BadAnswers) as caught:
                 run("X", (), (value,))

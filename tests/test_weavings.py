@@ -482,10 +482,15 @@ class LastPlaces(unittest.TestCase):
                 ("P ! on, [Y || X <- [1, 2], Y <- case X of 1 -> [v:mk()]; 2 -> receive never -> [1] end end]", 1), ("P ! on, [Y || X <- [1, 2], Y <- case X of 1 -> [v:mk()]; 2 -> receive never -> [1] end end, false]", 0),
                 ("P ! on, [receive never -> 1 end || X <- [1], begin Y = v:mk(), is_function(Y) end, Y <- [2], X > Y]", 0),
                 ("F = v:mk(), P ! on, receive never -> 1 end, {{}, #{}, []}", 0), ("F = v:mk(), P ! on, receive never -> 1 end, {{}, #{1 => F}, []}", 1),
+                ("F = v:mk(), P ! on, {many(F), receive never -> 1 end}", 0), ("F = v:mk(), P ! on, {many(F), receive never -> 1 end, F}", 1),
+                ("P ! on, {begin X = v:mk(), 1 end, receive never -> 1 end}, X", 1), ("P ! on, {begin X = v:mk(), many(X) end, receive never -> 1 end}, P", 0),
+                ("P ! on, {many(P), begin X = v:mk(), receive never -> 1 end end}, X", 1),
+                ("P ! on, receive X -> X after begin X = v:mk(), X, receive never -> 5 end end -> 2 end", 0), ("P ! on, try 1 of _ -> X = v:mk(), X, receive never -> 1 end after X = 2, X end", 0),
+                ("F = v:mk(), P ! on, receive never -> 1 end, [X || X <- F, Y <- [1], Y > 1]", 1), ("F = v:mk(), P ! on, receive never -> 1 end, [X || F <- [1], X <- F, X > 1]", 0),
                 ("F = v:mk(), P ! on, receive never -> 1 end, <<1>>", 0), ("F = v:mk(), P ! on, receive never -> 1 end, fun F(1) -> F(2) end", 0), ("F = v:mk(), P ! on, receive never -> 1 end, not (1 > length([F]))", 1), ("P ! on, try G = v:mk(), receive never -> G end of _ -> 1 after 3 end, G = 2, G", 1),
                 ("P ! on, try G = v:mk(), G, receive never -> 1 end of _ -> 1 after 3 end, G = 2, G", 0),
                 ("self() ! v:mk(), P ! on, receive never -> 1 end", 1), ("F = v:mk(), P ! on, hold(F)", 0), ("F = v:mk(), P ! on, hold({F, 1}), F", 1)):
-            text = other + "go(P) -> " + body + ". hold(X) -> X, receive never -> 1 end. hold(X, Y) -> {X, Y}. give() -> 1."
+            text = other + "go(P) -> " + body + ". hold(X) -> X, receive never -> 1 end. many(X) -> length([X]). hold(X, Y) -> {X, Y}. give() -> 1."
             told = system("-module(m). -export([f/0]). f() -> spawn(u, go, [self()]), receive on -> 1 end, load(v, 1), purge(v).",
                           "-module(v). -export([mk/0]). mk() -> fun () -> 1 end.", "-module(v).", text)
             self.assertEqual(("purge", "v", wanted), looks(told)[-2], body)
