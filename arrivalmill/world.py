@@ -24,6 +24,7 @@ class World:
     doers by path; on_way: by (from, to) the tuple of (signal, the step that sent it) on the way; the books of names, of
     code (shelf), and the clock; asked: for each book the rows of who asked it. marks: for each step (whose it is, the
     books that it asked, the earlier steps that it needs, whether it does a purge or soft_purge, who was there then).
+    causes and killed are those of the last step: the earlier steps that it needs, the paths of whom its purge ends.
     """
 
     def __init__(self, shelf):
