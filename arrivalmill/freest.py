@@ -149,17 +149,17 @@ class Puzzle:
             return ("map", self.row_of(place, question))
         nodes = [self.unifier.node(None) for _ in steps]
         for step, node in zip(steps, nodes):
-            self.places[(*place, step)] = node
+            part = (*place, step)
+            self.places[part] = node
         return (word, *nodes)
 
     def row_of(self, place, question):
         """The key and the value of a map that has this key."""
         value = self.unifier.node(None)
-        if question[0] == "has":
-            self.places[(*place, ("key", question[1]))] = value
-            return (self.unifier.const(question[1]), value)
-        self.places[(*place, ("keyed", question[1]))] = value
-        return (self.names[question[1]], value)
+        is_told = question[0] == "has"
+        part = (*place, ("key" if is_told else "keyed", question[1]))
+        self.places[part] = value
+        return (self.unifier.const(question[1]) if is_told else self.names[question[1]], value)
 
 
 class Builder:

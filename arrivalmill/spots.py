@@ -32,16 +32,9 @@ class There:
         """Notes an answer, by which further places may be there."""
         if not answer:
             return
-        if question[0] == "tuple":
-            for number in range(question[1]):
-                self.places[(*place, number)] = True
-        elif question[0] == "cons":
-            self.places[(*place, "first")] = True
-            self.places[(*place, "rest")] = True
-        elif question[0] == "has":
-            self.places[(*place, ("key", question[1]))] = True
-        elif question[0] == "keyed":
-            self.places[(*place, ("keyed", question[1]))] = True
+        for step in _steps_to_parts(question):
+            part = (*place, step)
+            self.places[part] = True
 
     def has_place(self, value):
         """Whether any value is a place that is there."""
@@ -69,6 +62,17 @@ class There:
         if word == "same":
             return self.has_place(question[1])
         return word in ("keyed", "held") and isinstance(question[1], str) and question[1] in self.known
+
+
+def _steps_to_parts(question):
+    """The last steps of the places that are there behind an answer True."""
+    if question[0] == "tuple":
+        return list(range(question[1]))
+    if question[0] == "cons":
+        return ["first", "rest"]
+    if question[0] == "has":
+        return [("key", question[1])]
+    return [question] if question[0] == "keyed" else []
 
 
 def _is_step(value):

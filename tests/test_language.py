@@ -194,6 +194,11 @@ class Statements(unittest.TestCase):
             self.assertIsNone(node.returns)
             self.assertTrue(all(arg.annotation is None for arg in node.args.args))
 
+    def test_no_star_within_a_subscript(self):
+        for name, node in each(ast.Subscript):
+            stars = [inner for inner in ast.walk(node.slice) if isinstance(inner, ast.Starred)]
+            self.assertEqual([], stars, (name, node.lineno))
+
     def test_is_stands_beside_none_and_truths(self):
         for name, node in each(ast.Compare):
             for sign, right in zip(node.ops, node.comparators):
