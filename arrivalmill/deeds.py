@@ -41,49 +41,57 @@ def look_done(doer, answer, book):
 
     Returned are what it sends, and the reason if this ends the doer, otherwise None: then it is to go on.
     """
-    word = doer.there[0]
-    if word != "look":
-        do = RECEIVED[word]
-        do(doer, doer.there)
+    if doer.there[0] != "look":
+        doer.state = _behind_receive(doer)
+        received(doer)
         return ((), None)
-    if is_answered(doer):
-        doer.answers = (*doer.answers, answer)
-    _, word, parts, scope, stack = doer.state
+    outcome, sent = deed_done(doer, answer)
+    _, word, _, scope, stack = doer.state
     if word == "full":
-        doer.story = (*doer.story, ("full", parts[0], parts[1], len(parts[2]), answer))
         doer.state = answered_full(Life(doer.path, book), doer.state, answer)
         return ((), None)
-    do = DEEDS[word]
-    look, outcome, sent = do(doer, parts, answer)
-    doer.story = (*doer.story, look)
     if is_kind(outcome, "ends"):
         return (sent, outcome[1])
     doer.state = state_of(outcome, scope, stack)
     return (sent, None)
 
 
-def _took(doer, there):
-    _, number, body, names = there
-    _, _, _, scope, stack = doer.state
-    doer.story = (*doer.story, ("receive", doer.box[number]))
-    doer.box = doer.box[:number] + doer.box[number + 1:]
-    doer.state = body_state(body, (names, scope[1]), stack)
+def deed_done(doer, answer):
+    """Does the look that a doer's state asks for: what it comes to, None for a full call, and what it sends."""
+    if is_answered(doer):
+        doer.answers = (*doer.answers, answer)
+    word, parts = doer.state[1], doer.state[2]
+    if word == "full":
+        doer.story = (*doer.story, ("full", parts[0], parts[1], len(parts[2]), answer))
+        return (None, ())
+    do = DEEDS[word]
+    look, outcome, sent = do(doer, parts, answer)
+    doer.story = (*doer.story, look)
+    return (outcome, sent)
 
 
-def _over(doer, _there):
-    _, _, parts, _, stack = doer.state
-    doer.story = (*doer.story, ("over",))
-    doer.state = body_state(parts[2], parts[3], stack)
+def received(doer):
+    """Does the look of a receive that is there, but for what stands behind it."""
+    word = doer.there[0]
+    if word == "took":
+        number = doer.there[1]
+        doer.story = (*doer.story, ("receive", doer.box[number]))
+        doer.box = doer.box[:number] + doer.box[number + 1:]
+    else:
+        doer.story = (*doer.story, doer.there)
+    if word == "wait":
+        doer.there = None
+        doer.waiting = doer.waits
+        doer.waits += 1
 
 
-def _wait(doer, there):
-    doer.story = (*doer.story, there)
-    doer.there = None
-    doer.waiting = doer.waits
-    doer.waits += 1
-
-
-RECEIVED = {"took": _took, "over": _over, "wait": _wait}
+def _behind_receive(doer):
+    """The state behind the look of a receive that is there."""
+    _, _, parts, scope, stack = doer.state
+    if doer.there[0] == "took":
+        _, _, body, names = doer.there
+        return body_state(body, (names, scope[1]), stack)
+    return doer.state if doer.there[0] == "wait" else body_state(parts[2], parts[3], stack)
 
 
 def _new_reference(doer):

@@ -14,7 +14,8 @@ class Doer:
     ("look",) as its state asks for it, ("took", number of the letter, body, names), ("over",), ("wait", time), or
     ("end", reason). waiting is the number of the wait behind which it waits, None if there is none.
     heard are the signals that came as long as it lived, arrivals all of them, as records tell them. tale, code and
-    calls are kept for searches: numbers for its story and for all of it, and what it may still call.
+    calls are kept for searches: numbers for its story and for all of it, and what it may still call. mind tells how it
+    takes letters if it goes by rows of code, None if it goes by forms.
     """
 
     def __init__(self, path, keeps):
@@ -37,6 +38,7 @@ class Doer:
         self.tale = (0, 0)
         self.code = None
         self.calls = None
+        self.mind = None
 
 
 def copy_of(doer):
@@ -67,10 +69,11 @@ def go_on(doer, book):
     doer.state = gone_on(life, doer.state)
     doer.made = life.made
     doer.waiting = None
-    doer.there = _look_there(doer)
+    doer.there = look_there(doer)
 
 
-def _look_there(doer):
+def look_there(doer):
+    """The look that is there for a doer that has gone on; None if it waits."""
     state = doer.state
     if state[0] == "done":
         return ("end", "normal")
@@ -82,7 +85,11 @@ def _look_there(doer):
         found = _taking(doer, number)
         if found is not None:
             return found
-    time = state[2][1]
+    return look_untaken(state[2][1])
+
+
+def look_untaken(time):
+    """The look that is there at a receive with this time that takes no letter; None if it waits."""
     if time is None:
         return None
     return ("wait", time) if time > 0 else ("over",)
@@ -99,6 +106,8 @@ def reason_of(word, reason):
 
 def _taking(doer, number):
     """The look that takes this letter of the box; None if no clause does."""
+    if doer.mind is not None:
+        return doer.mind.taking(doer.box[number], number)
     _, _, parts, scope, _ = doer.state
     found = first_taken(parts[0], (doer.box[number],), scope[0], doer.keeps[0])
     return None if found is None else ("took", number, *found)

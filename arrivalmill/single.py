@@ -17,10 +17,37 @@ MOST_LOOKS = 400
 PURGED = ("exit", "kill", False, 0)
 
 
+class FormMind:
+    """How a doer goes by forms: its first full call, and on behind each look that it does."""
+
+    def __init__(self, modules, doer):
+        self.book = {(module.name, 1): program_of(module) for module in modules}
+        self.doer = doer
+
+    def begin(self, start):
+        """Stands ahead of the first full call."""
+        self.doer.state = begun_state(*start)
+        go_on(self.doer, self.book)
+
+    def do(self, answer):
+        """Does the look that is there, but an end, and goes on: the reason if this ends it, otherwise None."""
+        _, reason = look_done(self.doer, answer, self.book)
+        if reason is None and self.doer.there is not None:
+            go_on(self.doer, self.book)
+        return reason
+
+
 def alone(modules, path, start, signals, answers):
     """What one process does by itself that begins by this full call: (looks, end)."""
     if not is_book(modules):
         raise BadBook(modules)
+    want_life(path, start, signals, answers)
+    doer = doer_at(path)
+    return lived(doer, FormMind(modules, doer), start, signals, answers)
+
+
+def want_life(path, start, signals, answers):
+    """Raises the error of what no process can be, begin with or get."""
     if not is_path(path):
         raise BadPath(path)
     if not is_start(start):
@@ -28,16 +55,22 @@ def alone(modules, path, start, signals, answers):
     _want_signals(path, signals)
     if not isinstance(answers, tuple):
         raise BadAnswers(-1)
-    doer = Doer(path, (("pid", path), False, (), (), ()))
-    doer.state = begun_state(*start)
-    book = {(module.name, 1): program_of(module) for module in modules}
-    go_on(doer, book)
+
+
+def doer_at(path):
+    """A doer that nobody tied or watched."""
+    return Doer(path, (("pid", path), False, (), (), ()))
+
+
+def lived(doer, mind, start, signals, answers):
+    """What a doer does as far as it goes: (looks, end)."""
+    mind.begin(start)
     come, end = 0, None
     while end is None:
         come = _deliver(doer, signals, come)
         end = _end_of(doer, answers)
         if end is None:
-            _do_look(doer, answers, book)
+            _do_look(doer, answers, mind)
     if come < len(signals):
         raise BadSignals(come)
     return (doer.story, end)
@@ -67,7 +100,7 @@ def _end_of(doer, answers):
     return None
 
 
-def _do_look(doer, answers, book):
+def _do_look(doer, answers, mind):
     if doer.there[0] == "end":
         look_ended(doer, doer.there[1])
         return
@@ -76,13 +109,11 @@ def _do_look(doer, answers, book):
         number = len(doer.answers)
         answer = answers[number]
         check = ANSWERS[doer.state[1]]
-        if not check(answer, doer.state[2], book):
+        if not check(answer, doer.state[2], mind.book):
             raise BadAnswers(number)
-    _, reason = look_done(doer, answer, book)
+    reason = mind.do(answer)
     if reason is not None:
         look_ended(doer, reason)
-    elif doer.there is not None:
-        go_on(doer, book)
 
 
 def _is_holder(value, _parts, _book):

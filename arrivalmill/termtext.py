@@ -150,7 +150,7 @@ class TermReader:
             return -self.figures(1)
         return self.figures(0)
 
-    def word(self):
+    def word_here(self):
         """The signs of a word that come next, as far as a word can go."""
         begin = self.at
         while self.sign() in WORD_SIGNS and self.at - begin < LONGEST_WORD:
@@ -159,7 +159,7 @@ class TermReader:
 
     def bare(self):
         """What begins with a small letter: an atom without quotes, or a function."""
-        word = self.word()
+        word = self.word_here()
         if word == "fun" and self.passes(" "):
             return self.function()
         if word in KEYED:
@@ -172,7 +172,7 @@ class TermReader:
         if self.sign() in SMALL:
             word = self.keyed_word()
         else:
-            word = self.word()
+            word = self.word_here()
         if not word:
             raise BadTermText(self.at)
         self.want("'")
@@ -194,7 +194,7 @@ class TermReader:
             return self.quoted()
         if self.sign() not in SMALL:
             raise BadTermText(self.at)
-        word = self.word()
+        word = self.word_here()
         if word in KEYED:
             raise BadTermText(self.at)
         return word

@@ -55,6 +55,7 @@ def functions_of(tree):
 
 def locals_of(function):
     names = {arg.arg for arg in function.args.args + function.args.kwonlyargs}
+    names |= {function.args.vararg.arg} if function.args.vararg else set()
     for node in ast.walk(function):
         if isinstance(node, ast.Name) and isinstance(node.ctx, ast.Store):
             names.add(node.id)
@@ -181,11 +182,19 @@ class ModuleLevel(unittest.TestCase):
 
 class Statements(unittest.TestCase):
     def test_what_is_not_in_the_language(self):
-        barred = (ast.AsyncFunctionDef, ast.Global, ast.Try, ast.Set, ast.SetComp, ast.AnnAssign, ast.Div, ast.Import,
+        barred = (ast.AsyncFunctionDef, ast.Global, ast.Set, ast.SetComp, ast.AnnAssign, ast.Div, ast.Import,
                   ast.With, ast.Match, ast.Yield, ast.YieldFrom, ast.NamedExpr, ast.JoinedStr, ast.Pow, ast.Mod,
                   ast.Lambda, ast.Delete, ast.Nonlocal)
         for name, node in each(barred):
             self.fail((name, getattr(node, "lineno", None), type(node)))
+
+    def test_own_errors_alone_are_caught(self):
+        errors = tops_of(TREES["errors.py"])
+        for name, node in each(ast.Try):
+            self.assertEqual(([], []), (node.orelse, node.finalbody), (name, node.lineno))
+            for handler in node.handlers:
+                kinds = handler.type.elts if isinstance(handler.type, ast.Tuple) else [handler.type]
+                self.assertTrue(all(kind.id in errors for kind in kinds), (name, node.lineno))
 
     def test_no_decorators_or_annotations(self):
         for name, node in each((ast.FunctionDef, ast.ClassDef)):
@@ -293,7 +302,8 @@ class Names(unittest.TestCase):
             for argument in node.args:
                 if isinstance(argument, ast.Starred):
                     self.assertIsInstance(argument.value, (ast.Name, ast.Attribute), (name, node.lineno))
-                    self.assertIs(argument, node.args[-1])
+                    behind = node.args[node.args.index(argument) + 1:]
+                    self.assertTrue(all(isinstance(one, (ast.Name, ast.Starred)) for one in behind), (name, node.lineno))
 
     def test_underscore_is_never_read(self):
         for name, node in each(ast.Name):
