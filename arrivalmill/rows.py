@@ -23,6 +23,8 @@ class Code:
         self.rows = tuple(reader.rows)
         self.ops = tuple(reader.ops)
         self.places = reader.places
+        # What was found of all rows is kept: who asks of one row most often asks of others.
+        self.edges = None
         self.alive = None
 
     def __eq__(self, other):
@@ -40,8 +42,14 @@ def _want_row(code, number):
 def ways(code, number):
     """The numbers of all rows that can come next behind a row."""
     _want_row(code, number)
-    found = {behind: True for _, behind in all_edges(code)[number]}
+    found = {behind: True for _, behind in _edges_of(code)[number]}
     return tuple(sorted(list(found)))
+
+
+def _edges_of(code):
+    if code.edges is None:
+        code.edges = all_edges(code)
+    return code.edges
 
 
 def live(code, number):
@@ -59,7 +67,7 @@ def _names_in(letter, mask):
 
 def _masks_alive(code):
     """For each row what is alive ahead of it: the numbers of x, and of y, as bits of two integers."""
-    ahead = all_edges(code)
+    ahead = _edges_of(code)
     rows_ahead = [[] for _ in code.ops]
     for number, found in enumerate(ahead):
         for _, behind in found:
@@ -117,7 +125,7 @@ def words_wanted(code, number):
     _want_row(code, number)
     if code.ops[number].word != "room":
         raise NoRoom(number)
-    behind = all_edges(code)
+    behind = _edges_of(code)
     # More than all rows make together is made only where some ring of rows makes words in each lap.
     limit = sum([_words_made(op) for op in code.ops])
     made = {}

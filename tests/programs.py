@@ -114,7 +114,7 @@ class Maker:
     def expression(self, bound, depth):
         """An expression."""
         bound = [name for name in bound if name not in self.unsafe]
-        if depth <= 0:
+        if depth <= 0 or self.rng.random() < 0.12 * depth:
             return self.leaf(bound)
         rng, few = self.rng, self.rng.randint(0, 3)
         def word(rows):
