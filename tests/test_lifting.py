@@ -86,7 +86,7 @@ class Lifted(unittest.TestCase):
             signals, answers, looks = lived(rng, (module,), (1,), ("m", "f", ()), drawn_signals(rng, (1,)))
             self.same((module,), (code,), (1,), ("m", "f", ()), signals, answers)
         signals, answers, looks = lived(rng, (module,), (1,), ("m", "f", ()), (("clock", ("over", 0), 20),))
-        self.assertEqual((("over",), ("waits",)), (looks[0][20], looks[1][:1]))
+        self.assertEqual((("over",), ("ended",)), (looks[0][20], looks[1][:1]))
         self.assertGreater(len(looks[0]), 27)
         for cut in range(len(answers)):
             self.same((module,), (code,), (1,), ("m", "f", ()), (), answers[:cut])

@@ -21,7 +21,7 @@ class Words(unittest.TestCase):
 
     def test_parts_are_counted_as_often_as_they_stand(self):
         one = ("tuple", 1, 2)
-        self.assertEqual((3, 3 + 2 * 3, 3 + 6 + 18), (flat_words(one), flat_words(("tuple", one, one)), flat_words(("tuple", *[("tuple", one, one)] * 2))))
+        self.assertEqual((3, 3 + 2 * 3, 3 + 2 * 9), (flat_words(one), flat_words(("tuple", one, one)), flat_words(("tuple", *[("tuple", one, one)] * 2))))
 
     def test_by_the_sum_of_parts(self):
         rng = random.Random(7)
