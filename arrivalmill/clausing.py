@@ -43,7 +43,7 @@ class ClauseReader(WordReader):
 
     def read_test(self):
         """A test: an expression below the matches, of which not all are let in guards."""
-        place = self.place()
+        place = self.place_here()
         form = self.binary(0, EXPRESSION).expression
         if not is_test(form):
             self.note("guard", place)
@@ -180,7 +180,7 @@ class ClauseReader(WordReader):
 
     def read_fun_clause(self, named):
         """A clause of a fun: (its place, its own name, the clause)."""
-        place = self.place()
+        place = self.place_here()
         own = self.want(NAME) if named else None
         patterns = self.read_head()
         if len(patterns) > MOST_PATTERNS:
@@ -202,7 +202,7 @@ class ClauseReader(WordReader):
 
     def read_number(self, most):
         """A number up to this one."""
-        place = self.place()
+        place = self.place_here()
         number = self.want(NUMBER)
         if number > most:
             raise BadText(place)

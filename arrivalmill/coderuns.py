@@ -30,6 +30,7 @@ class CodeMind:
             decks[code.name] = Deck(code, store)
         self.book = {(name, 1): decks[name] for name in decks}
         self.run = Run(store, decks, doer)
+        store.follow(self.run)
         self.doer = doer
         doer.mind = self
 

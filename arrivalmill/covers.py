@@ -41,7 +41,7 @@ class WordReader:
         """The kind of the word that comes next."""
         return self.words[self.at][0]
 
-    def place(self):
+    def place_here(self):
         """Where the word stands that comes next."""
         return self.words[self.at][2:]
 
@@ -54,7 +54,7 @@ class WordReader:
     def want(self, kind):
         """Passes by a word that must be of this kind, and tells its worth."""
         if self.kind() != kind:
-            raise BadText(self.place())
+            raise BadText(self.place_here())
         return self.take()
 
     def passes(self, kind):
@@ -71,7 +71,7 @@ class WordReader:
     def end_well(self):
         """Wants the text to be over, and its rules not to be broken."""
         if self.kind() != OVER:
-            raise BadText(self.place())
+            raise BadText(self.place_here())
         if self.wrongs:
             place, rank = min(self.wrongs)
             raise BadForm((RANKS[rank], place[0], place[1]))

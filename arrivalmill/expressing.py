@@ -17,7 +17,7 @@ class ExpressionReader(ClauseReader):
 
     def fail(self):
         """The next word cannot stand here."""
-        raise BadText(self.place())
+        raise BadText(self.place_here())
 
     def whole(self, may):
         """A whole expression, a pattern or a map's key."""

@@ -57,11 +57,11 @@ def _takes(run, op):
 
 
 def _same(run, op):
-    _go_if(run, op, run.term(op.reads[0]) == run.term(op.reads[1]))
+    _go_if(run, op, run.store.is_same(run.read(op.reads[0]), run.read(op.reads[1])))
 
 
 def _unlike(run, op):
-    _go_if(run, op, run.term(op.reads[0]) != run.term(op.reads[1]))
+    _go_if(run, op, not run.store.is_same(run.read(op.reads[0]), run.read(op.reads[1])))
 
 
 def _less(run, op):
@@ -74,10 +74,10 @@ def _at_most(run, op):
 
 
 def _pick(run, op):
-    term = run.term(op.reads[0])
+    word = run.read(op.reads[0])
     label = op.labels[0]
     for number, other in zip(op.more, op.labels[1:]):
-        if run.term(("c", number)) == term:
+        if run.store.is_same(word, run.read(("c", number))):
             label = other
             break
     run.at = run.deck.places[label]

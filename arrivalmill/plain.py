@@ -41,7 +41,7 @@ def worth(modules, module, function, terms):
         raise BadTerms(terms)
     if not _exports(modules, module, function, len(terms)):
         raise Undefined((module, function, len(terms)))
-    return _told(modules, module, function, terms)
+    return worth_in(book_of(modules), module, function, terms)
 
 
 def is_book(value):
@@ -63,9 +63,13 @@ def _exports(modules, name, function, many):
     return False
 
 
-def _told(modules, module, function, terms):
-    """Goes on through full calls, each module being there as edition 1, up to the end or the first other look."""
-    book = {(one.name, 1): program_of(one) for one in modules}
+def book_of(modules):
+    """The programs of modules, each being there as edition 1."""
+    return {(one.name, 1): program_of(one) for one in modules}
+
+
+def worth_in(book, module, function, terms):
+    """Goes on through full calls, among the programs of a book, up to the end or the first other look."""
     life = Life((), book)
     state = begun_state(module, function, terms)
     while state[0] == "asks" and state[1] == "full":

@@ -109,7 +109,7 @@ class ModuleReader(ExpressionReader):
 
     def read_export(self):
         """One row of an export."""
-        place = self.place()
+        place = self.place_here()
         name = self.want(ATOM)
         return (name, self.read_size()), place
 
@@ -132,7 +132,7 @@ class ModuleReader(ExpressionReader):
 
     def read_function_head(self):
         """A head: (its place, the name, the patterns)."""
-        place = self.place()
+        place = self.place_here()
         name = self.want(ATOM)
         patterns = self.read_head()
         if len(patterns) > MOST_PATTERNS:

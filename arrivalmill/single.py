@@ -5,8 +5,7 @@ from arrivalmill.doers import Doer, go_on, look_ended, signal_came
 from arrivalmill.errors import BadAnswers, BadBook, BadPath, BadSignals, BadStart
 from arrivalmill.exits import is_signal
 from arrivalmill.names import UNDEFINED
-from arrivalmill.plain import is_book
-from arrivalmill.preparing import program_of
+from arrivalmill.plain import book_of, is_book
 from arrivalmill.running import begun_state
 from arrivalmill.sameness import is_same
 from arrivalmill.signs import is_count, is_path, is_process
@@ -21,7 +20,7 @@ class FormMind:
     """How a doer goes by forms: its first full call, and on behind each look that it does."""
 
     def __init__(self, modules, doer):
-        self.book = {(module.name, 1): program_of(module) for module in modules}
+        self.book = book_of(modules)
         self.doer = doer
 
     def begin(self, start):

@@ -46,6 +46,10 @@ class PlainStore:
         """The term of a word."""
         return word
 
+    def is_same(self, one, other):
+        """Whether two words have the same term."""
+        return one == other
+
     def kind(self, word):
         """The word of its kind."""
         return kind_of_term(word)
