@@ -6,8 +6,15 @@ import inspect
 import random
 import unittest
 
+from arrivalmill.checked import checked
+from arrivalmill.desk import Desk
 from arrivalmill.errors import MillError
+from arrivalmill.heaps import Heap
+from arrivalmill.journals import journal
+from arrivalmill.lifting import code_of
 from arrivalmill.reading import Module, read_expression
+from arrivalmill.rows import Code
+from arrivalmill.termtext import read_term
 from tests.systems import MANY, led, one, walked
 
 INTERFACE = {
@@ -25,16 +32,24 @@ INTERFACE = {
                 "shows_alike": "system other path ticks most value"},
     "heads": {"Heads": "clauses known", "clause_taken": "heads subjects held failing", "fitting": "heads subjects held", "heads_of": "module name many"},
     "questions": {"answering": "width known answers", "shows_answering": "width known answers value", "settled": "width known answers place question"},
+    "rows": {"Code": "text", "live": "code number", "ways": "code number", "words_wanted": "code number"}, "lifting": {"code_of": "module"},
+    "checked": {"checked": "code", "shows_checked": "code value", "note_behind": "code many way", "best_table": "code"},
+    "machine": {"coded_alone": "codes path start signals answers", "stand": "codes path start signals answers"}, "turns": {"by_turns": "system share hands most", "same_stories": "system one other"}, "words": {"flat_words": "term"},
+    "heaps": {"Heap": "room"}, "copying": {"copied": "heap word other"}, "servers": {"texts": "", "outcome": "ref arrivals time", "served": "table state letters"}, "supervisors": {"text": "", "shape": "plan falls", "fewest_falls": "plan"},
+    "editions": {"editions_of": "system weaving", "holders": "system weaving name", "places_of": "system weaving path", "square": "old new begin letters", "shows_square": "old new begin letters value"}, "desk": {"Desk": "system", "path_text": "path"}, "journals": {"journal": "desk", "read_journal": "text"},
     "trees": {"tree": "heads", "shows_tree": "heads value", "goes": "heads value subjects held failing", "reached": "heads", "shows_reached": "heads value", "untaken": "heads", "shows_untaken": "heads value"},
 }
 METHODS = {("boxes", "Box"): {"with_letter": "term", "without": "number", "flushed": "reference", "__len__": "", "__contains__": None, "__eq__": None},
            ("timers", "Clock"): {"with_timer": "key time to signal", "without": "key", "ticked": "", "__eq__": None},
+           ("rows", "Code"): {"__len__": "", "__eq__": None}, ("heaps", "Heap"): {"make": "kind parts", "put": "term", "term": "word", "age": "word", "parts": "word", "shared": "words", "flat": "word", "ask": "words roots"},
+           ("desk", "Desk"): {"__len__": "", "__eq__": None, "step": "step", "back": "many", "on": "many", "mark": "name", "to": "name", "first": "wish", "beside": "name", "copy": ""},
            ("weavings", "System"): {"__eq__": None}, ("heads", "Heads"): {"__len__": "", "__eq__": None}}
 
 GO = ("go", ())
 SMALL = one("C = spawn(m, g, [self()]), C ! a, receive X -> X after 1 -> none end", "g(P) -> receive a -> P ! b end.")
 WEAVING = led(SMALL)
 P, Q = ("pid", ()), ("pid", (1,))
+ROOMY = Code("code m\nentry f 1 0\nlabel 0\nroom 2 1\ncell x0 x0 x0\nreturn")
 ANY_VALUES = (None, True, False, 0, -1, 7, "", "a", "no term", (), [], {}, (True,), [1], {"a": 1}, ("a",), ((),), ([],), ("list", True), SMALL, MillError(1), Module("-module(m)."), ("go", ()), (GO,), (GO, GO))
 
 
@@ -75,6 +90,13 @@ def right_arguments():
                "shows_alike": {"other": SMALL, "value": call("allruns", "alike", {"system": SMALL, "other": SMALL, "path": (1,), "ticks": 1, "most": 50})[1]},
                "shows_all_tellings": {"value": call("allruns", "all_tellings", {"system": SMALL, "ticks": 1, "most": 50})[1]}, "shows_can": {"value": call("allruns", "can", {"system": SMALL, "wish": wish, "ticks": 1, "most": 50})[1]},
                "shows_surely": {"value": call("allruns", "surely", {"system": SMALL, "wish": wish, "ticks": 1, "most": 50})[1]}}
+    code = code_of(Module("-module(m). -export([g/1]). g(P) -> receive a -> P ! b end."))
+    heap = Heap(52)
+    handling = Module("-module(c). -export([handle/2, change/1]). handle(L, S) -> {L, S}. change(S) -> S.")
+    common.update({"text": code.text, "code": code, "number": 0, "way": (0,), "codes": (code,), "share": 3, "hands": 2, "term": ("list", 1), "room": 12, "heap": heap, "word": heap.put(("list", 1, 2)), "ref": ("ref", (), 1), "arrivals": (("tick",), 5), "table": ((1, 2, 3, 4),), "state": 1,
+                   "plan": read_term("{one,1,5,[{a,always,3,{worker,m,f}}]}"), "old": handling, "new": handling, "begin": 0, "desk": Desk(SMALL)})
+    special.update({"words_wanted": {"code": ROOMY, "number": 1}, "shows_checked": {"value": checked(code)}, "copied": {"other": Heap(20)}, "served": {"letters": ((1, 2),)}, "shape": {"falls": ((1, ("a",), "x"),)},
+                    "square": {"letters": (1, 2)}, "shows_square": {"letters": (1, 2), "value": ("closes", (0,))}, "read_journal": {"text": journal(Desk(SMALL))}, "coded_alone": {}, "same_stories": {"other": other}})
     rows = []
     for module, functions in INTERFACE.items():
         for name, words in functions.items():
@@ -84,9 +106,11 @@ def right_arguments():
 
 RIGHT = right_arguments()
 # Parameters of which callers pass values of one class alone, and those whose wrong values are not specified.
-FREE = {"system", "box", "heads", "module", "clauses", "book", "lives", "process", "name", "many"}
-OBJECTS = {"alike": {"other"}, "shows_alike": {"other"}}
-VALUE_OF = {"BadWeaving": int, "BadSignals": int, "BadAnswers": (int, type(None)), "BadHeads": (int, type(None))}
+FREE = {"system", "box", "heads", "module", "clauses", "book", "lives", "process", "name", "many", "code", "heap", "desk"}
+# Heaps are equal to themselves alone, and what is copied changes one.
+CHANGING = {"Heap", "copied"}
+OBJECTS = {"alike": {"other"}, "shows_alike": {"other"}, "copied": {"other"}}
+VALUE_OF = {"BadWeaving": int, "BadSignals": int, "BadAnswers": (int, type(None)), "BadHeads": (int, type(None)), "BadCode": int, "BadJournal": int, "NoRoom": int}
 
 
 class Interface(unittest.TestCase):
@@ -109,6 +133,8 @@ class Interface(unittest.TestCase):
             kept = copy.deepcopy({word: value for word, value in arguments.items() if isinstance(value, tuple)})
             first = call(module, name, arguments)
             self.assertEqual("returns", first[0], (name, first))
+            if name in CHANGING:
+                continue
             self.assertEqual(first, call(module, name, arguments))
             self.assertEqual(kept, {word: value for word, value in arguments.items() if isinstance(value, tuple)})
             by_place = getattr(importlib.import_module("arrivalmill." + module), name)(*arguments.values())
@@ -134,8 +160,22 @@ class Interface(unittest.TestCase):
                         elif told[1] == "BadQuestion":
                             changed = {**arguments, word: value}
                             self.assertEqual((changed["place"], changed["question"]), told[2])
-                        elif told[1] not in ("NotSame", "NotRun", "TooMany", "Endless", "NoRace", "NoProcess", "Unsound", "BadSubjects", "BadHeld"):
+                        elif told[1] not in ("NotSame", "NotRun", "TooMany", "Endless", "NoRace", "NoProcess", "Unsound", "BadSubjects", "BadHeld", "Stuck"):
                             self.assertIs(value, told[2], (name, word, told))
+
+    def test_properties(self):
+        told = {"text": "code m\nentry f 1 0\nlabel 0\nreturn", "name": "m", "constants": (), "entries": (("f", 1, 0),), "exports": (), "rows": (("label", 0), ("return",))}
+        self.assertEqual(told, {word: getattr(Code(told["text"]), word) for word in told})
+        told = {"room": 20, "young": 0, "marked": 0, "elder": 0, "free": 20, "lessers": 0, "greaters": 0}
+        self.assertEqual(told, {word: getattr(Heap(20), word) for word in told})
+        told = {"system": SMALL, "steps": (), "place": 0, "weaving": (), "marks": ()}
+        self.assertEqual(told, {word: getattr(Desk(SMALL), word) for word in told})
+
+    def test_heap_alone_takes_its_last_arguments_by_name(self):
+        from arrivalmill.copying import heap_alone
+        parameters = inspect.signature(heap_alone).parameters
+        self.assertEqual(["codes", "path", "start", "signals", "answers", "room", "always"], list(parameters))
+        self.assertEqual([(inspect.Parameter.KEYWORD_ONLY, 12), (inspect.Parameter.KEYWORD_ONLY, False)], [(parameters[word].kind, parameters[word].default) for word in ("room", "always")])
 
     def test_results_ascend(self):
         rng = random.Random(3)
