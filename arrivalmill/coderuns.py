@@ -36,17 +36,19 @@ class CodeMind:
 
     def begin(self, start):
         """Stands ahead of the first full call."""
-        self.doer.state = ("asks", "full", start)
-        self.doer.there = ("look",)
+        doer = self.doer
+        doer.state = ("asks", "full", start)
+        doer.there = ("look",)
 
     def stop_at(self, stop):
         """Notes why the run has stopped, and which look is there."""
-        self.doer.state = stop
-        self.doer.waiting = None
+        doer = self.doer
+        doer.state = stop
+        doer.waiting = None
         if stop == ("look",):
             self.go_through_box()
         else:
-            self.doer.there = look_there(self.doer)
+            doer.there = look_there(doer)
 
     def go_through_box(self):
         """Tries all letters of the box; behind them the wait of the look is come to, or what stands in its place."""
@@ -73,8 +75,9 @@ class CodeMind:
             self.stop_at(self.run.fall("error", "timeout_value") or went_on(self.run))
             return
         time = None if time == "infinity" else time
-        self.doer.state = ("asks", "receive", (None, time))
-        self.doer.there = look_untaken(time)
+        doer = self.doer
+        doer.state = ("asks", "receive", (None, time))
+        doer.there = look_untaken(time)
 
     def do(self, answer):
         """Does the look that is there, but an end, and goes on: the reason if this ends it, otherwise None."""

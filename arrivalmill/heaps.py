@@ -206,11 +206,10 @@ class Heap:
         """A lesser clearing. No elder cell has parts that are not elder: so it is not gone through."""
         self.lessers += 1
         found = self.reached(roots, "elder")
-        newer = self.newer
-        self.newer = []
+        stays = []
         self.young = 0
         self.marked = 0
-        for number in newer:
+        for number in self.newer:
             cell = self.cells[number]
             if number not in found:
                 self.cells.pop(number)
@@ -220,7 +219,8 @@ class Heap:
             else:
                 cell.stage = "marked"
                 self.marked += cell.weight
-                self.newer.append(number)
+                stays.append(number)
+        self.newer = stays
         self.free = self.room - self.marked
 
     def clear_all(self, words, roots):
@@ -229,7 +229,8 @@ class Heap:
         found = self.reached(roots, None)
         for number in list(self.cells):
             if number in found:
-                self.cells[number].stage = "elder"
+                cell = self.cells[number]
+                cell.stage = "elder"
             else:
                 self.cells.pop(number)
         self.newer = []

@@ -54,7 +54,6 @@ class Lifter:
         self.sheet = Sheet()
         self.functions = {entry: self.sheet.label() for entry in program.functions}
         self.fun_labels = {}
-        self.sizes = {}
 
     def write_functions(self):
         """Writes all functions, and all funs."""

@@ -134,8 +134,9 @@ def _done(run, name, terms):
     if name == "self":
         return run.doer.keeps[0]
     if name == "make_ref":
-        run.doer.made += 1
-        return ("ref", run.doer.path, run.doer.made)
+        doer = run.doer
+        doer.made += 1
+        return ("ref", doer.path, doer.made)
     return operated(name, terms) if is_sign(name, len(terms)) else performed(name, terms)
 
 

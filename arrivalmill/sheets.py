@@ -17,7 +17,7 @@ class Sheet:
         self.numbers = {}
         self.labels = 0
         self.guarding = None
-        self.slots = Slots()
+        self.slots = Slots(0)
 
     def constant(self, term):
         """The source of a constant."""
@@ -60,8 +60,7 @@ class Sheet:
 
     def begin_function(self, label):
         """Begins a function: its frame is written when it is known how many slots it has."""
-        self.slots = Slots()
-        self.slots.frame_at = len(self.lines) + 1
+        self.slots = Slots(len(self.lines) + 1)
         self.mark(label)
         self.lines.extend(["", ""])
 
@@ -73,11 +72,11 @@ class Sheet:
 
 
 class Slots:
-    """The slots of a function: which are free, and in which the names that it binds stand."""
+    """The slots of a function whose frame is written at a row: which are free, and in which the names that it binds."""
 
-    def __init__(self):
+    def __init__(self, frame_at):
+        self.frame_at = frame_at
         self.many = 0
-        self.frame_at = 0
         self.free_slots = []
         self.homes = {}
 

@@ -25,8 +25,9 @@ class FormMind:
 
     def begin(self, start):
         """Stands ahead of the first full call."""
-        self.doer.state = begun_state(*start)
-        go_on(self.doer, self.book)
+        doer = self.doer
+        doer.state = begun_state(*start)
+        go_on(doer, self.book)
 
     def do(self, answer):
         """Does the look that is there, but an end, and goes on: the reason if this ends it, otherwise None."""

@@ -231,6 +231,16 @@ class OtherNames(unittest.TestCase):
         tellings = [call("allruns", "all_tellings", {"system": part, "ticks": 1, "most": 300})[1] for part in (told, other)]
         self.assertEqual({self.other(telling) for telling, _ in tellings[0]}, {telling for telling, _ in tellings[1]})
 
+    def test_code(self):
+        import re
+        table = dict(self.NAMES)
+        text = re.sub(r"\b_?[A-Za-z]+\b", lambda found: table.get(found.group(), found.group()), self.TEXT)
+        told, other = (code_of(Module(part)) for part in (self.TEXT, text))
+        self.assertEqual(self.other(told.rows), other.rows)
+        for answers in ((), (1,), (1, True), (1, True, None, ("pid", (1,)))):
+            looks = [call("machine", "coded_alone", {"codes": (code,), "path": (), "start": ("m", "f", ()), "signals": (), "answers": answers}) for code in (told, other)]
+            self.assertEqual(self.other(looks[0]), looks[1])
+
     def test_heads(self):
         from arrivalmill.heads import Heads
         from arrivalmill.trees import shows_tree, tree

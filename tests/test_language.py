@@ -226,6 +226,18 @@ class Statements(unittest.TestCase):
                     self.assertIsInstance(argument, (ast.ListComp, ast.List, ast.Dict, ast.Name, ast.Attribute, ast.Call))
         self.assertEqual(len(allowed), len(list(each(ast.GeneratorExp))))
 
+    def test_attributes_are_assigned_through_local_names(self):
+        for name, node in each(ast.Attribute):
+            if isinstance(node.ctx, ast.Store):
+                self.assertIsInstance(node.value, ast.Name, (name, node.lineno))
+
+    def test_what_a_loop_goes_over_is_not_modified_in_it(self):
+        for name, node in each(ast.For):
+            over = ast.unparse(node.iter)
+            for inner in [part for row in node.body for part in ast.walk(row)]:
+                if isinstance(inner, ast.Call) and isinstance(inner.func, ast.Attribute) and inner.func.attr in ("append", "extend", "remove", "pop", "insert", "clear", "reverse", "update", "setdefault"):
+                    self.assertNotEqual(over, ast.unparse(inner.func.value), (name, node.lineno))
+
     def test_errors_are_made_where_they_are_raised(self):
         errors = tops_of(TREES["errors.py"])
         for name, node in each(ast.Raise):
