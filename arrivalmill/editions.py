@@ -6,7 +6,7 @@ from arrivalmill.looker import is_sound
 from arrivalmill.order import sorted_terms
 from arrivalmill.plain import book_of, worth_in
 from arrivalmill.reading import Module
-from arrivalmill.sameness import is_same
+from arrivalmill.sameness import is_among, is_same
 from arrivalmill.shapes import is_kind
 from arrivalmill.signs import is_atom, is_path
 from arrivalmill.terms import is_term
@@ -43,22 +43,22 @@ def places_of(system, weaving, path):
 
 def square(old, new, begin, letters):
     """Whether states of an old module's handle carry over to a new one's, by its change."""
-    told = _told(old, new, begin, letters)
-    return ("opens", told[1][0]) if told[0] == "opens" else told
+    return _square(old, new, begin, letters).found_from(begin)
 
 
 def shows_square(old, new, begin, letters, value):
     """Whether any value is what may be told of a square."""
-    told = _told(old, new, begin, letters)
+    found = _square(old, new, begin, letters)
+    told = found.found_from(begin)
     if told[0] == "closes":
         return is_same(told, value)
     if not isinstance(value, tuple) or len(value) != 2 or not is_same("opens", value[0]):
         return False
-    return len([row for row in told[1] if is_same(row, value[1])]) > 0
+    return isinstance(value[1], tuple) and len(value[1]) == len(told[1]) and found.opens_behind(begin, value[1])
 
 
-def _told(old, new, begin, letters):
-    """("closes", states), or ("opens", all shortest rows at whose last letter it does not close)."""
+def _square(old, new, begin, letters):
+    """The square of two modules and letters."""
     if not _is_handling(old):
         raise BadModule(old)
     if not _is_handling(new) or new.name != old.name or ("change", 1) not in new.exports:
@@ -67,7 +67,7 @@ def _told(old, new, begin, letters):
         raise BadTerm(begin)
     if not _are_letters(letters):
         raise BadTerms(letters)
-    return Square(old, new, letters).found_from(begin)
+    return Square(old, new, letters)
 
 
 def _is_handling(value):
@@ -109,11 +109,20 @@ class Square:
             if sticks:
                 raise Stuck(sticks[0])
             if opens:
-                return ("opens", opens)
+                return ("opens", opens[0])
             level = _unknown(behind, known)
             if len(known) > MOST_STATES:
                 raise Many(MOST_STATES)
         return ("closes", tuple(sorted_terms([known[text] for text in known])))
+
+    def opens_behind(self, begin, row):
+        """Whether a row is one of these letters at whose last letter it opens."""
+        word, state = "closes", begin
+        for letter in row:
+            if word != "closes" or not is_among(letter, self.letters):
+                return False
+            word, state = self.closing(state, letter)
+        return word == "opens"
 
     def closing(self, state, letter):
         """Whether it closes, opens or sticks at a state and a letter; and the old module's state behind."""

@@ -228,6 +228,17 @@ class Squares(unittest.TestCase):
         self.assertEqual(("opens", ("a", "a")), square(wide, handling("case S of [_] -> {no, S}; _ -> {ok, [L | S]} end"), ("list",), ("a", "b", "c", "d", "e", "g"))[:2])
         self.assertRaises(Many, square, wide, handling("case S of [_, _, _] -> {no, S}; _ -> {ok, [L | S]} end"), ("list",), ("a", "b", "c", "d", "e", "g"))
 
+    def test_all_shortest_rows_are_taken(self):
+        # Both letters lead to one state, at which it opens.
+        old = handling("case S of 0 -> {ok, 1}; 1 -> {ok, 2}; 2 -> {ok, 2} end")
+        new = handling("case S of 0 -> {ok, 1}; 1 -> {ok, 2}; 2 -> {no, 2} end")
+        told = square(old, new, 0, ("a", "b"))
+        self.assertEqual(3, len(told[1]))
+        for row in itertools.product("ab", repeat=3):
+            self.assertIs(True, shows_square(old, new, 0, ("a", "b"), ("opens", row)))
+        for row in (("a", "a"), ("a",) * 4, (), ("a", "a", "c"), ("a", "a", True), ["a", "a", "a"], "aaa", None):
+            self.assertIs(False, shows_square(old, new, 0, ("a", "b"), ("opens", row)), row)
+
     def test_states_ascend(self):
         ring = handling("case S of a -> {1, 2}; 2 -> {1, {b}}; {b} -> {1, a} end")
         self.assertEqual(("closes", sort_terms(("a", 2, ("tuple", "b")))), square(ring, ring, "a", (1,)))

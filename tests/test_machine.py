@@ -183,6 +183,16 @@ class Calls(unittest.TestCase):
         other = Code("code foo\nconst 0 exit\nentry g 1 5\nexport g 1\nlabel 5\nlast 6 1\nlabel 6\nraise c0 x0")
         self.assertEqual(("ended", "a"), run("move c0 x0", f"move {C['foo']} x1", f"move {C['g']} x2", "outer 1", "return", answers=(1, 1), others=(other,))[1])
 
+    def test_between_modules(self):
+        other = Code("code foo\nconst 0 m\nconst 1 h\nentry g 1 0\nexport g 1\nlabel 0\nframe 1\nmove x0 y0\nmove c0 x1\nmove c1 x2\nouter 1\ntuple x0 x0 y0\nunframe\nreturn")
+        def made(*last):
+            rows = ("frame 2", "clear y0 y1", "try y0 1", f"move {C['a']} x0", f"move {C['foo']} x1", f"move {C['g']} x2", "outer 1", "untry y0", "do exit x0 x0", "label 1", "tuple x0 x0 x1", "do exit x0 x0", "label 2", *last)
+            return run(*rows, entries=("entry h 1 2",), exports=("export h 1",), answers=(1, 1, 1), others=(other,))[1]
+        self.assertEqual(("ended", ("tuple", ("tuple", "a", "a"), "a")), made("tuple x0 x0 x0", "return"))
+        self.assertEqual(("ended", ("tuple", "throw", "a")), made("do throw x0 x0", "return"))
+        place = standing("frame 2", "clear y0 y1", "try y0 1", f"move {C['a']} x0", f"move {C['foo']} x1", f"move {C['g']} x2", "outer 1", "label 1", "return", "label 2", "do monotonic_time x1", "return", entries=("entry h 1 2",), exports=("export h 1",), answers=(1, 1, 1), others=(other,))
+        self.assertEqual((("m", 11), ((0, "a"),), (("back", ("foo", 6)), ("frame", ("a",)), ("back", ("m", 8)), ("frame", (None, ("list",)))), ((1, 0, ("m", 8)),)), place)
+
     def test_functions_of_whatever_edition(self):
         fun = ("fun", "m", "g", 1, 0, ())
         rows = ("apply 1", "do exit x0 x0", "label 1", "tuple x0 x0", "return")

@@ -1,8 +1,10 @@
 """Section 17: turns; and what of them nobody sees."""
 
+import itertools
 import random
 import unittest
 
+from arrivalmill.ending import who_ends
 from arrivalmill.errors import BadNumber, BadWeaving
 from arrivalmill.judging import judged
 from arrivalmill.lifting import code_of
@@ -145,6 +147,28 @@ class Rule(unittest.TestCase):
                         looks, end = alone(told.modules, path, start, signals, answers)
                         self.assertEqual(story(told, weaving, path), looks[:len(story(told, weaving, path))])
                         self.assertEqual((looks, end), coded_alone(codes, path, start, signals, answers))
+
+    def test_who_ends_is_whom_who_ends_tells(self):
+        rng = random.Random(12)
+        several = 0
+        for _ in range(40):
+            many = rng.randint(2, 5)
+            pids = tuple(("pid", (number,)) for number in range(1, many + 1))
+            ties = tuple(pair for pair in itertools.combinations(pids, 2) if rng.random() < 0.5)
+            trappers = tuple(pid for pid in pids if rng.random() < 0.3)
+            falls = tuple((pid, rng.choice(("a", "b"))) for pid in rng.sample(pids, rng.randint(1, 2)))
+            body = "P = [spawn(m, g, []) || _ <- [" + ", ".join("1" for _ in pids) + "]], S = self(), "
+            at = lambda pid: "at(" + str(pid[1][0]) + ", P)"
+            deeds = [at(one) + " ! {link, S, " + at(other) + "}, receive done -> ok end" for one, other in ties] + [at(pid) + " ! {trap, S}, receive done -> ok end" for pid in trappers]
+            deeds += ["receive after 1 -> ok end"] + [at(pid) + " ! {fall, " + reason + "}" for pid, reason in falls]
+            told = one(body + ", ".join(deeds), "at(1, [X | _]) -> X; at(N, [_ | Y]) -> at(N - 1, Y). g() -> receive {link, S, P} -> link(P), S ! done, g(); {trap, S} -> process_flag(trap_exit, true), S ! done, g(); {fall, R} -> exit(R) end.")
+            weaving, why = by_turns(told, rng.choice((1, 3, 99)), rng.randint(1, 4), 400)
+            self.assertEqual("over", why)
+            ended = tuple(("pid", path) for path, word, _ in standing(told, weaving) if word == "ended" and path != ())
+            wanted = who_ends((pids, ties, trappers), falls)
+            self.assertEqual(tuple(pid for pid, _ in wanted), ended)
+            several += len(ended) > len(falls)
+        self.assertGreater(several, 8)
 
     def test_errors_in_their_sequence(self):
         wrong = (None, True, "1", (1,), [], -1, 10 ** 20)
