@@ -294,6 +294,9 @@ def clause_of(maker, many, depth):
             form = ("send", ("built", "self", ()), form)
         bound = maker.behind(form, bound)
         body.append(form)
+    told = ("tuple", tuple(("name", name) for name in bound))
+    # What all names that are bound stand for is told by the reason of the end, or by the worth of the call.
+    body.append(("built", "exit", (told,)) if many == 0 else told)
     return (patterns, guard, tuple(body))
 
 
