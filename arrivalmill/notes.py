@@ -15,7 +15,7 @@ NO_FRAME_WANTED = ("return", "frame")
 NO_HAND_WANTED = ("return", "look", "wait")
 ROOM_ENDED = ("do", "guard", "fun", "own", "look", "wait")
 REGISTERS = 1000
-KNOWN_KINDS = {"head": "cell", "tail": "cell", "part": "tuple"}
+TAKING_PARTS = ("head", "tail", "part")
 
 
 class Note:
@@ -169,7 +169,7 @@ def _words_of(op):
 
 def _has_known_parts(code, op, note):
     """Whether what a row takes parts of is known to have them."""
-    if op.word not in KNOWN_KINDS:
+    if op.word not in TAKING_PARTS:
         return True
     kind = _kind_known(code, op.reads[0], note)
     if op.word != "part":

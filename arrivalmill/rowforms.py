@@ -11,7 +11,6 @@ from arrivalmill.tables import is_built, is_sign, looks
 KIND_WORDS = ("integer", "atom", "boolean", "bytes", "nil", "cell", "tuple", "map", "pid", "reference", "fun")
 BARE_REASONS = ("function_clause", "if_clause", "timeout_value")
 TERM_REASONS = ("badmatch", "case_clause", "try_clause", "badarg", "bad_filter", "bad_generator")
-MAP_WORDS = ("map", "may", "must")
 LABEL_FIGURES = 6
 FIGURES = 3
 

@@ -51,13 +51,6 @@ class Sheet:
         else:
             self.write("guard", word, self.guarding, target, *sources)
 
-    def fail(self, *words):
-        """Writes a row that raises an error; in a guard one that goes on at its label."""
-        if self.guarding is None:
-            self.write("fail", *words)
-        else:
-            self.jump(self.guarding)
-
     def begin_function(self, label):
         """Begins a function: its frame is written when it is known how many slots it has."""
         self.slots = Slots(len(self.lines) + 1)
